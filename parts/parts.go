@@ -1,0 +1,61 @@
+// Package parts contains what step machines of several layers embed: Lines is what all of them share, and Deque what those on a deque share. See shared/doc/08-machine.md and shared/doc/09-owner.md under 'Definitions'.
+package parts
+
+import (
+	"worksteal/api"
+	"worksteal/machine"
+)
+
+// over is the line of a machine that is done: the chapters number the lines from 1 on.
+const over = 0
+
+// Lines is the next line of a machine, and its result. The zero value is done with 0 and 0.
+type Lines struct{ line, code, value int }
+
+// Begin returns the lines of a machine that is at its first one.
+func Begin() Lines { return Lines{line: 1} }
+
+// Line returns the next line; no line has this number if the machine is done.
+func (l *Lines) Line() int { return l.line }
+
+// Next lets a line be the next one, and returns that the machine is not done.
+func (l *Lines) Next(line int) bool {
+	l.line = line
+	return false
+}
+
+// End lets the machine be done with a result, and returns that it is.
+func (l *Lines) End(code, value int) bool {
+	l.line, l.code, l.value = over, code, value
+	return true
+}
+
+// Result returns the code and the value; both are 0 before the machine is done.
+func (l *Lines) Result() (code, value int) { return l.code, l.value }
+
+// Deque is the lines of a machine on a deque, the cells of the deque, and what was loaded from Bottom and Top, which the chapters call b and t.
+type Deque struct {
+	Lines
+	api.Queue
+	B, T uint64
+}
+
+// On returns the lines of a machine on the deque of q that is at its first one.
+func On(q api.Queue) Deque { return Deque{Lines: Begin(), Queue: q} }
+
+// LoadBottom loads the contents of Bottom.
+func (d *Deque) LoadBottom(e *machine.Env) { d.B = e.Memory.Load(d.Bottom) }
+
+// LoadTop loads the contents of Top.
+func (d *Deque) LoadTop(e *machine.Env) { d.T = e.Memory.Load(d.Top) }
+
+// Size returns the size for contents b of Bottom and the loaded ones of Top. The conversion wraps, so that it is negative where Top is ahead.
+func (d *Deque) Size(b uint64) int { return int(b - d.T) }
+
+// CellOf returns the cell of an index. Where a ring ends beyond the greatest int, the sum wraps to a negative number, which is no cell either.
+func (d *Deque) CellOf(index uint64) int {
+	if d.Cap < 1 {
+		return -1
+	}
+	return d.Ring + int(index%uint64(d.Cap))
+}
