@@ -1,0 +1,295 @@
+package steptest_test
+
+import (
+	"fmt"
+	"slices"
+	"testing"
+
+	"worksteal/api"
+	"worksteal/config"
+	"worksteal/layout"
+	"worksteal/machine"
+	"worksteal/memory"
+	"worksteal/steptest"
+)
+
+// A recorder keeps the faults that are reported to it.
+type recorder []string
+
+func (r *recorder) Helper() {}
+
+func (r *recorder) Errorf(format string, args ...any) {
+	*r = append(*r, fmt.Sprintf(format, args...))
+}
+
+// A mover loads cell 0 and stores what it has loaded into cell 1; it is done with Got and that value. Its fields behind these are what it does wrong.
+type mover struct {
+	steps int
+	v     uint64
+	// last is what the second line does instead of its store.
+	last func(e *machine.Env)
+	// beside is what it does beside each line, and idle what a step does when it is done.
+	beside, idle func(e *machine.Env)
+	// early is by how many lines it is done too early, and busy how often Step returns false when it is done.
+	early, busy int
+	result      func(m *mover) (code, value int)
+	copy        func(m *mover) machine.Machine
+}
+
+func (m *mover) Step(e *machine.Env) bool {
+	if m.steps >= 2-m.early {
+		if m.idle != nil {
+			m.idle(e)
+		}
+		m.busy--
+		return m.busy < 0
+	}
+	switch {
+	case m.steps == 0:
+		m.v = e.Memory.Load(0)
+	case m.last != nil:
+		m.last(e)
+	default:
+		e.Memory.Store(1, m.v)
+	}
+	if m.beside != nil {
+		m.beside(e)
+	}
+	m.steps++
+	return m.steps >= 2-m.early
+}
+
+func (m *mover) Result() (code, value int) {
+	switch {
+	case m.result != nil:
+		return m.result(m)
+	case m.steps < 2:
+		return 0, 0
+	}
+	return api.Got, int(m.v)
+}
+
+func (m *mover) Copy() machine.Machine {
+	if m.copy != nil {
+		return m.copy(m)
+	}
+	c := *m
+	return &c
+}
+
+// way returns the way that a mover must go, as copies of a mover go it.
+func way(m mover) steptest.Way {
+	return steptest.Way{
+		What:  "a mover",
+		Cells: []uint64{7, 8, 9},
+		Make:  func() machine.Machine { c := m; return &c },
+		Steps: []steptest.Step{steptest.Load(0, 7), steptest.Store(1, 6, 7).After(0, 5).After(1, 6)},
+		Code:  api.Got,
+		Value: 7,
+	}
+}
+
+// A fault is a mover that does something wrong.
+type fault struct {
+	what string
+	m    mover
+}
+
+// accesses returns movers whose accesses are wrong.
+func accesses() []fault {
+	return []fault{
+		{"no access", mover{last: func(e *machine.Env) {}}},
+		{"an access of another kind", mover{last: func(e *machine.Env) { e.Memory.CAS(1, 6, 7) }}},
+		{"an access to another cell", mover{last: func(e *machine.Env) { e.Memory.Store(2, 7) }}},
+		{"an access with another value", mover{last: func(e *machine.Env) { e.Memory.Store(1, 8) }}},
+		{"two accesses, the last of which is right", mover{last: func(e *machine.Env) { e.Memory.Load(1); e.Memory.Store(1, 7) }}},
+		{"another cell changes first", mover{last: func(e *machine.Env) { e.Memory.Store(2, 7); e.Memory.Store(1, 7) }}},
+		{"another memory, where as many accesses end with the right one", mover{last: func(e *machine.Env) {
+			count := e.Memory.Count()
+			e.Memory = memory.New(3)
+			for e.Memory.Count() < count {
+				e.Memory.Store(1, 6)
+			}
+			e.Memory.Store(1, 7)
+		}}},
+	}
+}
+
+// results returns movers whose end or result is wrong.
+func results() []fault {
+	return []fault{
+		{"done too early", mover{early: 1}},
+		{"another code", mover{result: func(m *mover) (code, value int) { return m.steps / 2 * api.Empty, m.steps / 2 * 7 }}},
+		{"another value", mover{result: func(m *mover) (code, value int) { return m.steps / 2 * api.Got, m.steps / 2 * 8 }}},
+	}
+}
+
+// outside returns movers that do something wrong when they are done, or whose Result is wrong before that.
+func outside() []fault {
+	return []fault{
+		{"a code before it is done", mover{result: func(m *mover) (code, value int) { return api.Got, m.steps / 2 * 7 }}},
+		{"a value before it is done", mover{result: func(m *mover) (code, value int) { return m.steps / 2 * api.Got, 7 }}},
+		{"an access when it is done", mover{idle: func(e *machine.Env) { e.Memory.Load(0) }}},
+		{"an access when it is done and a cell changes", mover{idle: func(e *machine.Env) {
+			if e.Memory.Peek(0) != 5 {
+				e.Memory.Load(0)
+			}
+		}}},
+		{"an event when it is done", mover{idle: func(e *machine.Env) { e.Emit(api.Event{Kind: api.EvPark}) }}},
+		{"Step returns false when it is done", mover{busy: 1}},
+	}
+}
+
+// others returns movers that change an environment beside its memory.
+func others() []fault {
+	return []fault{
+		{"a tick", mover{beside: func(e *machine.Env) { e.Clock.Tick() }}},
+		{"a draw", mover{beside: func(e *machine.Env) { e.Clock.Set(3) }}},
+		{"an event", mover{beside: func(e *machine.Env) { e.Emit(api.Event{Kind: api.EvPark}) }}},
+		{"another event", mover{beside: func(e *machine.Env) { e.Events[0].Worker++ }}},
+		{"a record", mover{beside: func(e *machine.Env) { e.Records = append(e.Records, api.Record{}) }}},
+		{"another configuration", mover{beside: func(e *machine.Env) { e.Config.Age++ }}},
+		{"another layout", mover{beside: func(e *machine.Env) { e.Layout, _ = layout.New(config.Decode(nil)) }}},
+	}
+}
+
+// copies returns movers whose copies are wrong.
+func copies() []fault {
+	return []fault{
+		{"a copy that is the machine itself", mover{copy: func(m *mover) machine.Machine { return m }}},
+		{"a copy that is at the beginning", mover{copy: func(m *mover) machine.Machine { return &mover{} }}},
+		{"a copy that has not loaded anything", mover{copy: func(m *mover) machine.Machine { return &mover{steps: m.steps} }}},
+	}
+}
+
+// A machine without faults has none, and its accesses, its end, its result and its copies are compared with what they must be.
+func TestCheck(t *testing.T) {
+	var r recorder
+	steptest.Check(&r, way(mover{}), way(mover{}))
+	steptest.CheckCopies(&r, way(mover{}), way(mover{}))
+	if len(r) != 0 {
+		t.Errorf("faults of a machine without any: %q", r)
+	}
+	for _, f := range slices.Concat(accesses(), results(), others(), outside()) {
+		r = nil
+		if steptest.Check(&r, way(mover{}), way(f.m)); len(r) == 0 {
+			t.Errorf("%s is not reported by Check", f.what)
+		}
+	}
+	for _, f := range slices.Concat(accesses(), results(), others(), outside(), copies()) {
+		r = nil
+		if steptest.CheckCopies(&r, way(mover{}), way(f.m)); len(r) == 0 {
+			t.Errorf("%s is not reported by CheckCopies", f.what)
+		}
+	}
+}
+
+// No machine is a fault, and the next way is checked all the same.
+func TestCheckNil(t *testing.T) {
+	var r recorder
+	w := way(mover{})
+	w.Make = func() machine.Machine { return nil }
+	if steptest.Check(&r, w, w); len(r) != 2 {
+		t.Errorf("the faults are %q, want one for each of two machines that are nil", r)
+	}
+}
+
+// Steps are those of the access with their name, behind their puts.
+func TestSteps(t *testing.T) {
+	steps := []steptest.Step{steptest.None(), steptest.Load(1, 12), steptest.Store(1, 12, 5), steptest.CAS(1, 12, 5), steptest.Or(1, 12, 13), steptest.And(1, 12, 4)}
+	for i, play := range []func(e *machine.Env){
+		func(e *machine.Env) {},
+		func(e *machine.Env) { e.Memory.Load(1) },
+		func(e *machine.Env) { e.Memory.Store(1, 5) },
+		func(e *machine.Env) { e.Memory.CAS(1, 12, 5) },
+		func(e *machine.Env) { e.Memory.Or(1, 9) },
+		func(e *machine.Env) { e.Memory.And(1, 6) },
+	} {
+		for j, s := range steps {
+			var r recorder
+			x := &mover{steps: 1, last: play}
+			steptest.CheckStep(&r, "a step", steptest.Filled([]uint64{0, 0}), x, s.After(1, 12), true)
+			if (len(r) == 0) != (i == j) {
+				t.Errorf("step %d as %v: the faults are %q", i, s, r)
+			}
+		}
+	}
+}
+
+// A step with further puts leaves the step that it was made of as it is, and whatever else is made of that one.
+func TestAfter(t *testing.T) {
+	s := steptest.Load(0, 3)
+	for i := range 9 {
+		a, b := s.After(0, 2), s.After(0, 3)
+		if len(s.Puts) != i || a.Puts[i].V != 2 || b.Puts[i].V != 3 {
+			t.Errorf("%v is changed by further puts %v and %v", s, a, b)
+		}
+		s = a
+	}
+}
+
+// Each field of a record that changes is a fault.
+func TestRecords(t *testing.T) {
+	for i, change := range []func(r *api.Record){
+		func(r *api.Record) {},
+		func(r *api.Record) { r.Prog++ },
+		func(r *api.Record) { r.Parent++ },
+		func(r *api.Record) { r.PC++ },
+		func(r *api.Record) { r.Left++ },
+		func(r *api.Record) { r.Waiting++ },
+		func(r *api.Record) { r.Kids = append(r.Kids, 3) },
+		func(r *api.Record) { r.Kids[0]++ },
+		func(r *api.Record) { r.Started = true },
+	} {
+		e := steptest.Filled([]uint64{7})
+		e.Records = []api.Record{{}, {Kids: []int{1, 2}}}
+		var r recorder
+		steptest.CheckStep(&r, "a step", e, &mover{beside: func(e *machine.Env) { change(&e.Records[1]) }}, steptest.Load(0, 7), false)
+		if (len(r) == 0) != (i == 0) {
+			t.Errorf("change %d of a record: the faults are %q", i, r)
+		}
+	}
+}
+
+// A machine behind some steps of a way is where it is behind them and their puts.
+func TestBegun(t *testing.T) {
+	for steps, want := range [][]uint64{{7, 8, 9}, {7, 8, 9}, {5, 7, 9}} {
+		e, x := way(mover{}).Begun(steps)
+		if g := e.Memory.Cells(); !slices.Equal(g, want) || x.(*mover).steps != steps {
+			t.Errorf("%d steps lead to %d, with the cells %v, want %v", steps, x.(*mover).steps, g, want)
+		}
+	}
+}
+
+// Equal machines have no faults; others differ in an access, in an end or a result, or change something beside the memory.
+func TestCheckEqual(t *testing.T) {
+	pair := func(m mover) recorder {
+		var r recorder
+		e := steptest.Filled([]uint64{7, 8, 9})
+		steptest.CheckEqual(&r, "two machines", e, e.Copy(), &mover{}, &m)
+		return r
+	}
+	if r := pair(mover{}); len(r) != 0 {
+		t.Errorf("faults of equal machines: %q", r)
+	}
+	for _, f := range slices.Concat(accesses(), results(), others()) {
+		if len(pair(f.m)) == 0 {
+			t.Errorf("%s is not reported by CheckEqual", f.what)
+		}
+	}
+	// The environments differ, in a cell that no machine accesses.
+	var r recorder
+	steptest.CheckEqual(&r, "two machines", steptest.Filled([]uint64{7, 8, 9}), steptest.Filled([]uint64{7, 8, 10}), &mover{}, &mover{})
+	if len(r) == 0 {
+		t.Error("another cell of another environment is not reported by CheckEqual")
+	}
+	// Both machines do the same wrong: they never are done, or they change something beside the memory.
+	for _, m := range []mover{{early: 2, busy: 1 << 20}, others()[0].m} {
+		var r recorder
+		e := steptest.Filled([]uint64{7, 8, 9})
+		x, y := m, m
+		if steptest.CheckEqual(&r, "two machines", e, e.Copy(), &x, &y); len(r) == 0 {
+			t.Error("a fault of both machines is not reported by CheckEqual")
+		}
+	}
+}
