@@ -11,6 +11,7 @@ import (
 	"worksteal/config"
 	"worksteal/machine"
 	"worksteal/owner"
+	"worksteal/steptest"
 )
 
 // Contents of cells at the limits: the greatest one, and 2^63, which is the least int.
@@ -19,39 +20,15 @@ const (
 	half = 1 << 63
 )
 
-// A put is what another machine puts into a cell.
-type put struct {
-	cell int
-	v    uint64
-}
+// A step is what a step of a machine must do. The tables of ways below are written with these short names.
+type step = steptest.Step
 
-// A step is what a step of a machine must do: its access, which is the zero value if there must be none, behind what another machine puts into cells before it.
-type step struct {
-	access api.Access
-	puts   []put
-}
-
-func load(cell int, v uint64) step {
-	return step{access: api.Access{Kind: api.AccessLoad, Cell: cell, Old: v, New: v}}
-}
-
-func store(cell int, old, v uint64) step {
-	return step{access: api.Access{Kind: api.AccessStore, Cell: cell, Old: old, New: v}}
-}
-
-// cas returns a CAS, which has failed if old and v are equal.
-func cas(cell int, old, v uint64) step {
-	return step{access: api.Access{Kind: api.AccessCAS, Cell: cell, Old: old, New: v}}
-}
-
-// after returns the step behind one more put.
-func (s step) after(cell int, v uint64) step {
-	s.puts = append(slices.Clone(s.puts), put{cell, v})
-	return s
-}
-
-// none is a step without an access.
-var none = step{}
+var (
+	none  = steptest.None()
+	load  = steptest.Load
+	store = steptest.Store
+	cas   = steptest.CAS
+)
 
 // A way is a way of a machine through its lines: the cells at first, the deque, what is pushed, what the steps must do, and the result.
 type way struct {
@@ -72,86 +49,19 @@ func (w way) make() machine.Machine {
 	return owner.Pop(w.q)
 }
 
-// env returns a bare environment with the cells of a way.
-func (w way) env() *machine.Env { return filled(w.cells) }
-
-// filled returns a bare environment with cells, an event and a clock that has ticked.
-func filled(cells []uint64) *machine.Env {
-	e := machine.Bare(len(cells))
-	for i, v := range cells {
-		e.Memory.Store(i, v)
-	}
-	e.Clock.Tick()
-	e.Emit(api.Event{Kind: api.EvPark, Worker: 3})
-	return e
-}
-
 // line returns a deque with a capacity whose cells begin with Top, Bottom and the ring.
 func line(capacity int) api.Queue { return api.Queue{Top: 0, Bottom: 1, Ring: 2, Cap: capacity} }
 
-// beside returns a text of all of an environment but its memory.
-func beside(e *machine.Env) string {
-	return fmt.Sprint(e.Config, e.Layout, e.Records, e.Events, *e.Clock)
-}
-
-// checkResult reports an error if a machine does not have a result.
-func checkResult(t *testing.T, what string, x machine.Machine, code, value int) {
-	t.Helper()
-	if c, v := x.Result(); c != code || v != value {
-		t.Errorf("%s: the result is %d and %d, want %d and %d", what, c, v, code, value)
-	}
-}
-
-// checkStep lets a machine perform a step, and reports an error if it does not do what it must, or anything else.
-func checkStep(t *testing.T, what string, e *machine.Env, x machine.Machine, s step, done bool) {
-	t.Helper()
-	for _, p := range s.puts {
-		e.Memory.Store(p.cell, p.v)
-	}
-	cells, count, last, rest := e.Memory.Cells(), e.Memory.Count(), e.Memory.Last(), beside(e)
-	if s.access.Kind != api.AccessNone {
-		count, last = count+1, s.access
-		cells[last.Cell] = last.New
-	}
-	if d := x.Step(e); d != done {
-		t.Errorf("%s: Step returns %t, want %t", what, d, done)
-	}
-	if e.Memory.Count() != count || e.Memory.Last() != last {
-		t.Errorf("%s: access number %d is %v, want number %d, %v", what, e.Memory.Count(), e.Memory.Last(), count, last)
-	}
-	if g := e.Memory.Cells(); !slices.Equal(g, cells) {
-		t.Errorf("%s: the cells are %v, want %v", what, g, cells)
-	}
-	if g := beside(e); g != rest {
-		t.Errorf("%s: beside the memory there is %s, want %s", what, g, rest)
-	}
-}
-
-// checkFrom lets a machine that has performed some of the steps of a way perform the others, and some more when it is done.
-func checkFrom(t *testing.T, what string, e *machine.Env, x machine.Machine, w way, from int) {
-	t.Helper()
-	for i := from; i < len(w.steps); i++ {
-		checkResult(t, fmt.Sprintf("%s before step %d", what, i+1), x, 0, 0)
-		checkStep(t, fmt.Sprintf("%s, step %d", what, i+1), e, x, w.steps[i], i == len(w.steps)-1)
-	}
-	for range 3 {
-		checkResult(t, what+", done", x, w.code, w.value)
-		checkStep(t, what+", a step when it is done", e, x, none, true)
-	}
-	// What becomes of the cells of a deque is nothing to a machine that is done with it.
-	checkStep(t, what+", a step behind a put", e, x, none.after(0, 77).after(1, 78).after(2, 79), true)
-	checkResult(t, what+", done for long", x, w.code, w.value)
+// whole returns a way as steptest plays it.
+func (w way) whole() steptest.Way {
+	return steptest.Way{What: w.what, Cells: w.cells, Make: w.make, Steps: w.steps, Code: w.code, Value: w.value}
 }
 
 // checkWays checks ways from their first to their last step.
 func checkWays(t *testing.T, ways []way) {
 	t.Helper()
 	for _, w := range ways {
-		x := w.make()
-		if x == nil {
-			t.Fatalf("%s: the machine is nil", w.what)
-		}
-		checkFrom(t, w.what, w.env(), x, w, 0)
+		steptest.Check(t, w.whole())
 	}
 }
 
@@ -260,18 +170,18 @@ func pushValues() []way {
 // pushOthers returns the ways of Push while another machine changes the cells. The lines that load a cell see what it contains then, and the others go on with what was loaded.
 func pushOthers() []way {
 	return pushes(
-		way{what: "a deque while Bottom changes before line 1", cells: []uint64{0, 0, 70, 80}, q: line(2), entry: 9, steps: []step{load(1, 1).after(1, 1), load(0, 0), store(3, 80, 9), store(1, 1, 2)}},
-		way{what: "a deque while Bottom changes before line 2", cells: []uint64{0, 0, 70, 80}, q: line(2), entry: 9, steps: []step{load(1, 0), load(0, 0).after(1, 2), store(2, 70, 9), store(1, 2, 1)}},
-		way{what: "a full deque while Bottom changes before line 2", cells: []uint64{0, 2, 70, 80}, q: line(2), entry: 9, steps: []step{load(1, 2), load(0, 0).after(1, 0)}, code: api.Full},
-		way{what: "a deque while Bottom changes before line 3", cells: []uint64{0, 0, 70, 80}, q: line(2), entry: 9, steps: []step{load(1, 0), load(0, 0), store(2, 70, 9).after(1, 1), store(1, 1, 1)}},
-		way{what: "a deque while Bottom changes before line 4", cells: []uint64{0, 0, 70, 80}, q: line(2), entry: 9, steps: []step{load(1, 0), load(0, 0), store(2, 70, 9), store(1, 50, 1).after(1, 50)}},
-		way{what: "a deque while Top changes before line 1", cells: []uint64{0, 2, 70, 80}, q: line(2), entry: 9, steps: []step{load(1, 2).after(0, 1), load(0, 1), store(2, 70, 9), store(1, 2, 3)}},
-		way{what: "a deque that is full no more before line 2", cells: []uint64{0, 2, 70, 80}, q: line(2), entry: 9, steps: []step{load(1, 2), load(0, 1).after(0, 1), store(2, 70, 9), store(1, 2, 3)}},
-		way{what: "a deque that becomes full before line 2", cells: []uint64{1, 2, 70, 80}, q: line(2), entry: 9, steps: []step{load(1, 2), load(0, 0).after(0, 0)}, code: api.Full},
-		way{what: "a deque that becomes full before line 3", cells: []uint64{0, 1, 70, 80}, q: line(2), entry: 9, steps: []step{load(1, 1), load(0, 0), store(3, 80, 9).after(0, top), store(1, 1, 2).after(0, 5)}},
-		way{what: "a deque while its ring changes before line 3", cells: []uint64{0, 1, 70, 80}, q: line(2), entry: 9, steps: []step{load(1, 1), load(0, 0), store(3, 81, 9).after(3, 81), store(1, 1, 2)}},
-		way{what: "a deque while its ring changes before line 4", cells: []uint64{0, 1, 70, 80}, q: line(2), entry: 9, steps: []step{load(1, 1), load(0, 0), store(3, 80, 9), store(1, 1, 2).after(3, 81)}},
-		way{what: "a deque whose Bottom is its Top, which changes", cells: []uint64{5, 0, 3}, q: api.Queue{Top: 0, Bottom: 0, Ring: 1, Cap: 2}, entry: 9, steps: []step{load(0, 5), load(0, 3).after(0, 3)}, code: api.Full},
+		way{what: "a deque while Bottom changes before line 1", cells: []uint64{0, 0, 70, 80}, q: line(2), entry: 9, steps: []step{load(1, 1).After(1, 1), load(0, 0), store(3, 80, 9), store(1, 1, 2)}},
+		way{what: "a deque while Bottom changes before line 2", cells: []uint64{0, 0, 70, 80}, q: line(2), entry: 9, steps: []step{load(1, 0), load(0, 0).After(1, 2), store(2, 70, 9), store(1, 2, 1)}},
+		way{what: "a full deque while Bottom changes before line 2", cells: []uint64{0, 2, 70, 80}, q: line(2), entry: 9, steps: []step{load(1, 2), load(0, 0).After(1, 0)}, code: api.Full},
+		way{what: "a deque while Bottom changes before line 3", cells: []uint64{0, 0, 70, 80}, q: line(2), entry: 9, steps: []step{load(1, 0), load(0, 0), store(2, 70, 9).After(1, 1), store(1, 1, 1)}},
+		way{what: "a deque while Bottom changes before line 4", cells: []uint64{0, 0, 70, 80}, q: line(2), entry: 9, steps: []step{load(1, 0), load(0, 0), store(2, 70, 9), store(1, 50, 1).After(1, 50)}},
+		way{what: "a deque while Top changes before line 1", cells: []uint64{0, 2, 70, 80}, q: line(2), entry: 9, steps: []step{load(1, 2).After(0, 1), load(0, 1), store(2, 70, 9), store(1, 2, 3)}},
+		way{what: "a deque that is full no more before line 2", cells: []uint64{0, 2, 70, 80}, q: line(2), entry: 9, steps: []step{load(1, 2), load(0, 1).After(0, 1), store(2, 70, 9), store(1, 2, 3)}},
+		way{what: "a deque that becomes full before line 2", cells: []uint64{1, 2, 70, 80}, q: line(2), entry: 9, steps: []step{load(1, 2), load(0, 0).After(0, 0)}, code: api.Full},
+		way{what: "a deque that becomes full before line 3", cells: []uint64{0, 1, 70, 80}, q: line(2), entry: 9, steps: []step{load(1, 1), load(0, 0), store(3, 80, 9).After(0, top), store(1, 1, 2).After(0, 5)}},
+		way{what: "a deque while its ring changes before line 3", cells: []uint64{0, 1, 70, 80}, q: line(2), entry: 9, steps: []step{load(1, 1), load(0, 0), store(3, 81, 9).After(3, 81), store(1, 1, 2)}},
+		way{what: "a deque while its ring changes before line 4", cells: []uint64{0, 1, 70, 80}, q: line(2), entry: 9, steps: []step{load(1, 1), load(0, 0), store(3, 80, 9), store(1, 1, 2).After(3, 81)}},
+		way{what: "a deque whose Bottom is its Top, which changes", cells: []uint64{5, 0, 3}, q: api.Queue{Top: 0, Bottom: 0, Ring: 1, Cap: 2}, entry: 9, steps: []step{load(0, 5), load(0, 3).After(0, 3)}, code: api.Full},
 	)
 }
 
@@ -299,8 +209,8 @@ func popLines() []way {
 		way{what: "two entries, by line 5", cells: []uint64{0, 2, 5, 6}, q: line(2), steps: []step{load(1, 2), load(0, 0), store(1, 2, 1), load(0, 0), load(3, 6)}, code: api.Got, value: 6},
 		way{what: "three entries, by line 5", cells: []uint64{0, 3, 5, 6, 7}, q: line(3), steps: []step{load(1, 3), load(0, 0), store(1, 3, 2), load(0, 0), load(4, 7)}, code: api.Got, value: 7},
 		way{what: "the last entry, by lines 6 to 8", cells: []uint64{0, 1, 5, 6}, q: line(2), steps: []step{load(1, 1), load(0, 0), store(1, 1, 0), load(0, 0), cas(0, 0, 1), store(1, 0, 1), load(2, 5)}, code: api.Got, value: 5},
-		way{what: "the last entry, by lines 6 and 9", cells: []uint64{0, 1, 5, 6}, q: line(2), steps: []step{load(1, 1), load(0, 0), store(1, 1, 0), load(0, 0), cas(0, 1, 1).after(0, 1), store(1, 0, 1)}, code: api.Empty},
-		way{what: "the last entry, by lines 4 and 9", cells: []uint64{0, 1, 5, 6}, q: line(2), steps: []step{load(1, 1), load(0, 0), store(1, 1, 0), load(0, 1).after(0, 1), store(1, 0, 1)}, code: api.Empty},
+		way{what: "the last entry, by lines 6 and 9", cells: []uint64{0, 1, 5, 6}, q: line(2), steps: []step{load(1, 1), load(0, 0), store(1, 1, 0), load(0, 0), cas(0, 1, 1).After(0, 1), store(1, 0, 1)}, code: api.Empty},
+		way{what: "the last entry, by lines 4 and 9", cells: []uint64{0, 1, 5, 6}, q: line(2), steps: []step{load(1, 1), load(0, 0), store(1, 1, 0), load(0, 1).After(0, 1), store(1, 0, 1)}, code: api.Empty},
 		way{what: "a deque of other cells", cells: []uint64{4, 40, 50, 60, 0, 6}, q: api.Queue{Top: 0, Bottom: 5, Ring: 1, Cap: 4}, steps: []step{load(5, 6), load(0, 4), store(5, 6, 5), load(0, 4), load(2, 50)}, code: api.Got, value: 50},
 		way{what: "a deque whose cells are in another order", cells: []uint64{40, 50, 9, 8, 1}, q: api.Queue{Top: 3, Bottom: 2, Ring: 0, Cap: 2}, steps: []step{load(2, 9), load(3, 8), store(2, 9, 8), load(3, 8), cas(3, 8, 9), store(2, 8, 9), load(0, 40)}, code: api.Got, value: 40},
 
@@ -337,8 +247,8 @@ func popIndices() []way {
 		way{what: "the first index behind a word", cells: []uint64{top, 1, 1, 2, 3}, q: line(3), steps: []step{load(1, 1), load(0, top), store(1, 1, 0), load(0, top), load(2, 1)}, code: api.Got, value: 1},
 		way{what: "a size of -1 around 2^64", cells: []uint64{0, top, 1, 2, 3}, q: line(3), steps: []step{load(1, top), load(0, 0)}, code: api.Empty},
 		way{what: "an empty deque at 2^64 - 1", cells: []uint64{top, top, 1, 2, 3}, q: line(3), steps: []step{load(1, top), load(0, top)}, code: api.Empty},
-		way{what: "the first index, which a thief takes", cells: []uint64{0, 1, 1, 2, 3}, q: line(3), steps: []step{load(1, 1), load(0, 0), store(1, 1, 0), load(0, 1).after(0, 1), store(1, 0, 1)}, code: api.Empty},
-		way{what: "the last index of a word, which a thief takes", cells: []uint64{top, 0, 1, 2, 3}, q: line(3), steps: []step{load(1, 0), load(0, top), store(1, 0, top), load(0, 0).after(0, 0), store(1, top, 0)}, code: api.Empty},
+		way{what: "the first index, which a thief takes", cells: []uint64{0, 1, 1, 2, 3}, q: line(3), steps: []step{load(1, 1), load(0, 0), store(1, 1, 0), load(0, 1).After(0, 1), store(1, 0, 1)}, code: api.Empty},
+		way{what: "the last index of a word, which a thief takes", cells: []uint64{top, 0, 1, 2, 3}, q: line(3), steps: []step{load(1, 0), load(0, top), store(1, 0, top), load(0, 0).After(0, 0), store(1, top, 0)}, code: api.Empty},
 	)
 }
 
@@ -354,7 +264,7 @@ func popCells() []way {
 		way{what: "one entry without Top", cells: []uint64{0, 1, 5, 6}, q: api.Queue{Top: 4, Bottom: 1, Ring: 2, Cap: 2}, steps: []step{load(1, 1), none, store(1, 1, 0), none, none, store(1, 0, 1)}, code: api.Empty},
 		way{what: "two entries without Top", cells: []uint64{0, 2, 5, 6}, q: api.Queue{Top: -2, Bottom: 1, Ring: 2, Cap: 2}, steps: []step{load(1, 2), none, store(1, 2, 1), none, load(3, 6)}, code: api.Got, value: 6},
 		way{what: "one entry without Bottom", cells: []uint64{top, 0, 5, 6}, q: api.Queue{Top: 0, Bottom: 4, Ring: 2, Cap: 2}, steps: []step{none, load(0, top), none, load(0, top), cas(0, top, 0), none, load(3, 6)}, code: api.Got, value: 6},
-		way{what: "one entry without Bottom, which a thief takes", cells: []uint64{top, 0, 5, 6}, q: api.Queue{Top: 0, Bottom: -1, Ring: 2, Cap: 2}, steps: []step{none, load(0, top), none, load(0, top), cas(0, 0, 0).after(0, 0), none}, code: api.Empty},
+		way{what: "one entry without Bottom, which a thief takes", cells: []uint64{top, 0, 5, 6}, q: api.Queue{Top: 0, Bottom: -1, Ring: 2, Cap: 2}, steps: []step{none, load(0, top), none, load(0, top), cas(0, 0, 0).After(0, 0), none}, code: api.Empty},
 		way{what: "an empty deque without Bottom", cells: []uint64{1, 1, 5, 6}, q: api.Queue{Top: 0, Bottom: -1, Ring: 2, Cap: 2}, steps: []step{none, load(0, 1)}, code: api.Empty},
 		way{what: "one entry without a ring", cells: []uint64{0, 1, 5, 6}, q: api.Queue{Top: 0, Bottom: 1, Ring: 4, Cap: 2}, steps: []step{load(1, 1), load(0, 0), store(1, 1, 0), load(0, 0), cas(0, 0, 1), store(1, 0, 1), none}, code: api.Got},
 		way{what: "the last cell", cells: []uint64{1, 3, 5, 6}, q: api.Queue{Top: 0, Bottom: 1, Ring: 3, Cap: 2}, steps: []step{load(1, 3), load(0, 1), store(1, 3, 2), load(0, 1), load(3, 6)}, code: api.Got, value: 6},
@@ -362,7 +272,7 @@ func popCells() []way {
 		way{what: "a ring at a negative cell", cells: []uint64{3, 5, 7, 8}, q: api.Queue{Top: 0, Bottom: 1, Ring: -2, Cap: 9}, steps: []step{load(1, 5), load(0, 3), store(1, 5, 4), load(0, 3), load(2, 7)}, code: api.Got, value: 7},
 		way{what: "a negative place of this ring", cells: []uint64{0, 2, 7, 8}, q: api.Queue{Top: 0, Bottom: 1, Ring: -2, Cap: 9}, steps: []step{load(1, 2), load(0, 0), store(1, 2, 1), load(0, 0), none}, code: api.Got},
 		way{what: "a deque whose Bottom is its Top", cells: []uint64{5, 7, 8}, q: api.Queue{Top: 0, Bottom: 0, Ring: 1, Cap: 2}, steps: []step{load(0, 5), load(0, 5)}, code: api.Empty},
-		way{what: "a deque whose Bottom is its Top, which changes", cells: []uint64{5, 7, 8}, q: api.Queue{Top: 0, Bottom: 0, Ring: 1, Cap: 2}, steps: []step{load(0, 5), load(0, 3).after(0, 3), store(0, 3, 4), load(0, 4), cas(0, 4, 5), store(0, 5, 5), load(1, 7)}, code: api.Got, value: 7},
+		way{what: "a deque whose Bottom is its Top, which changes", cells: []uint64{5, 7, 8}, q: api.Queue{Top: 0, Bottom: 0, Ring: 1, Cap: 2}, steps: []step{load(0, 5), load(0, 3).After(0, 3), store(0, 3, 4), load(0, 4), cas(0, 4, 5), store(0, 5, 5), load(1, 7)}, code: api.Got, value: 7},
 		way{what: "a deque whose ring is its Bottom", cells: []uint64{4, 6}, q: api.Queue{Top: 0, Bottom: 1, Ring: 1, Cap: 1}, steps: []step{load(1, 6), load(0, 4), store(1, 6, 5), load(0, 4), load(1, 5)}, code: api.Got, value: 5},
 	)
 }
@@ -387,32 +297,32 @@ func popValues() []way {
 // popOthers returns the ways of Pop while another machine changes the cells.
 func popOthers() []way {
 	return pops(
-		way{what: "a deque while Bottom changes before line 1", cells: []uint64{0, 1, 70, 80}, q: line(2), steps: []step{load(1, 2).after(1, 2), load(0, 0), store(1, 2, 1), load(0, 0), load(3, 80)}, code: api.Got, value: 80},
-		way{what: "a deque while Bottom changes before line 2", cells: []uint64{0, 2, 70, 80}, q: line(2), steps: []step{load(1, 2), load(0, 0).after(1, 0), store(1, 0, 1), load(0, 0), load(3, 80)}, code: api.Got, value: 80},
-		way{what: "an empty deque while Bottom changes before line 2", cells: []uint64{0, 0, 70, 80}, q: line(2), steps: []step{load(1, 0), load(0, 0).after(1, 2)}, code: api.Empty},
-		way{what: "a deque while Bottom changes before lines 3 and 4", cells: []uint64{0, 2, 70, 80}, q: line(2), steps: []step{load(1, 2), load(0, 0), store(1, 1, 1).after(1, 1), load(0, 0).after(1, 0), load(3, 80)}, code: api.Got, value: 80},
-		way{what: "the last entry while Bottom changes before lines 6 to 8", cells: []uint64{0, 1, 70, 80}, q: line(2), steps: []step{load(1, 1), load(0, 0), store(1, 1, 0), load(0, 0), cas(0, 0, 1).after(1, 7), store(1, 8, 1).after(1, 8), load(2, 70).after(1, 6)}, code: api.Got, value: 70},
-		way{what: "the last entry while Bottom changes before line 9", cells: []uint64{0, 1, 70, 80}, q: line(2), steps: []step{load(1, 1), load(0, 0), store(1, 1, 0), load(0, 0), cas(0, 1, 1).after(0, 1), store(1, 8, 1).after(1, 8)}, code: api.Empty},
+		way{what: "a deque while Bottom changes before line 1", cells: []uint64{0, 1, 70, 80}, q: line(2), steps: []step{load(1, 2).After(1, 2), load(0, 0), store(1, 2, 1), load(0, 0), load(3, 80)}, code: api.Got, value: 80},
+		way{what: "a deque while Bottom changes before line 2", cells: []uint64{0, 2, 70, 80}, q: line(2), steps: []step{load(1, 2), load(0, 0).After(1, 0), store(1, 0, 1), load(0, 0), load(3, 80)}, code: api.Got, value: 80},
+		way{what: "an empty deque while Bottom changes before line 2", cells: []uint64{0, 0, 70, 80}, q: line(2), steps: []step{load(1, 0), load(0, 0).After(1, 2)}, code: api.Empty},
+		way{what: "a deque while Bottom changes before lines 3 and 4", cells: []uint64{0, 2, 70, 80}, q: line(2), steps: []step{load(1, 2), load(0, 0), store(1, 1, 1).After(1, 1), load(0, 0).After(1, 0), load(3, 80)}, code: api.Got, value: 80},
+		way{what: "the last entry while Bottom changes before lines 6 to 8", cells: []uint64{0, 1, 70, 80}, q: line(2), steps: []step{load(1, 1), load(0, 0), store(1, 1, 0), load(0, 0), cas(0, 0, 1).After(1, 7), store(1, 8, 1).After(1, 8), load(2, 70).After(1, 6)}, code: api.Got, value: 70},
+		way{what: "the last entry while Bottom changes before line 9", cells: []uint64{0, 1, 70, 80}, q: line(2), steps: []step{load(1, 1), load(0, 0), store(1, 1, 0), load(0, 0), cas(0, 1, 1).After(0, 1), store(1, 8, 1).After(1, 8)}, code: api.Empty},
 
-		way{what: "a deque while Top changes before line 1", cells: []uint64{0, 2, 70, 80}, q: line(2), steps: []step{load(1, 2).after(0, 2), load(0, 2)}, code: api.Empty},
-		way{what: "two entries, both of which are taken before line 2", cells: []uint64{0, 2, 70, 80}, q: line(2), steps: []step{load(1, 2), load(0, 2).after(0, 2)}, code: api.Empty},
-		way{what: "two entries, one of which is taken before line 2", cells: []uint64{0, 2, 70, 80}, q: line(2), steps: []step{load(1, 2), load(0, 1).after(0, 1), store(1, 2, 1), load(0, 1), cas(0, 1, 2), store(1, 1, 2), load(3, 80)}, code: api.Got, value: 80},
-		way{what: "two entries, one of which is taken before line 3", cells: []uint64{0, 2, 70, 80}, q: line(2), steps: []step{load(1, 2), load(0, 0), store(1, 2, 1).after(0, 1), load(0, 1), cas(0, 1, 2), store(1, 1, 2), load(3, 80)}, code: api.Got, value: 80},
-		way{what: "two entries, one of which is taken before line 4", cells: []uint64{0, 2, 70, 80}, q: line(2), steps: []step{load(1, 2), load(0, 0), store(1, 2, 1), load(0, 1).after(0, 1), cas(0, 1, 2), store(1, 1, 2), load(3, 80)}, code: api.Got, value: 80},
-		way{what: "two entries, one of which is taken before line 4 and one before line 6", cells: []uint64{0, 2, 70, 80}, q: line(2), steps: []step{load(1, 2), load(0, 0), store(1, 2, 1), load(0, 1).after(0, 1), cas(0, 2, 2).after(0, 2), store(1, 1, 2)}, code: api.Empty},
-		way{what: "two entries, both of which are taken before line 4", cells: []uint64{0, 2, 70, 80}, q: line(2), steps: []step{load(1, 2), load(0, 0), store(1, 2, 1), load(0, 2).after(0, 2), store(1, 1, 2)}, code: api.Empty},
-		way{what: "two entries, one of which is taken before line 5", cells: []uint64{0, 2, 70, 80}, q: line(2), steps: []step{load(1, 2), load(0, 0), store(1, 2, 1), load(0, 0), load(3, 80).after(0, 1)}, code: api.Got, value: 80},
-		way{what: "three entries, one of which is taken before line 4", cells: []uint64{0, 3, 70, 80, 90}, q: line(3), steps: []step{load(1, 3), load(0, 0), store(1, 3, 2), load(0, 1).after(0, 1), load(4, 90)}, code: api.Got, value: 90},
-		way{what: "one entry, above which more come before line 4", cells: []uint64{5, 6, 70, 80}, q: line(2), steps: []step{load(1, 6), load(0, 5), store(1, 6, 5), load(0, 4).after(0, 4), load(3, 80)}, code: api.Got, value: 80},
-		way{what: "one entry while Top becomes less before line 6", cells: []uint64{5, 6, 70, 80}, q: line(2), steps: []step{load(1, 6), load(0, 5), store(1, 6, 5), load(0, 5), cas(0, 4, 4).after(0, 4), store(1, 5, 6)}, code: api.Empty},
-		way{what: "one entry while Top comes back before line 6", cells: []uint64{5, 6, 70, 80}, q: line(2), steps: []step{load(1, 6), load(0, 5), store(1, 6, 5), load(0, 5), cas(0, 5, 6).after(0, 6).after(0, 5), store(1, 5, 6), load(3, 80)}, code: api.Got, value: 80},
-		way{what: "one entry while Top changes behind line 6", cells: []uint64{5, 6, 70, 80}, q: line(2), steps: []step{load(1, 6), load(0, 5), store(1, 6, 5), load(0, 5), cas(0, 5, 6), store(1, 5, 6).after(0, 60), load(3, 80).after(0, 61)}, code: api.Got, value: 80},
+		way{what: "a deque while Top changes before line 1", cells: []uint64{0, 2, 70, 80}, q: line(2), steps: []step{load(1, 2).After(0, 2), load(0, 2)}, code: api.Empty},
+		way{what: "two entries, both of which are taken before line 2", cells: []uint64{0, 2, 70, 80}, q: line(2), steps: []step{load(1, 2), load(0, 2).After(0, 2)}, code: api.Empty},
+		way{what: "two entries, one of which is taken before line 2", cells: []uint64{0, 2, 70, 80}, q: line(2), steps: []step{load(1, 2), load(0, 1).After(0, 1), store(1, 2, 1), load(0, 1), cas(0, 1, 2), store(1, 1, 2), load(3, 80)}, code: api.Got, value: 80},
+		way{what: "two entries, one of which is taken before line 3", cells: []uint64{0, 2, 70, 80}, q: line(2), steps: []step{load(1, 2), load(0, 0), store(1, 2, 1).After(0, 1), load(0, 1), cas(0, 1, 2), store(1, 1, 2), load(3, 80)}, code: api.Got, value: 80},
+		way{what: "two entries, one of which is taken before line 4", cells: []uint64{0, 2, 70, 80}, q: line(2), steps: []step{load(1, 2), load(0, 0), store(1, 2, 1), load(0, 1).After(0, 1), cas(0, 1, 2), store(1, 1, 2), load(3, 80)}, code: api.Got, value: 80},
+		way{what: "two entries, one of which is taken before line 4 and one before line 6", cells: []uint64{0, 2, 70, 80}, q: line(2), steps: []step{load(1, 2), load(0, 0), store(1, 2, 1), load(0, 1).After(0, 1), cas(0, 2, 2).After(0, 2), store(1, 1, 2)}, code: api.Empty},
+		way{what: "two entries, both of which are taken before line 4", cells: []uint64{0, 2, 70, 80}, q: line(2), steps: []step{load(1, 2), load(0, 0), store(1, 2, 1), load(0, 2).After(0, 2), store(1, 1, 2)}, code: api.Empty},
+		way{what: "two entries, one of which is taken before line 5", cells: []uint64{0, 2, 70, 80}, q: line(2), steps: []step{load(1, 2), load(0, 0), store(1, 2, 1), load(0, 0), load(3, 80).After(0, 1)}, code: api.Got, value: 80},
+		way{what: "three entries, one of which is taken before line 4", cells: []uint64{0, 3, 70, 80, 90}, q: line(3), steps: []step{load(1, 3), load(0, 0), store(1, 3, 2), load(0, 1).After(0, 1), load(4, 90)}, code: api.Got, value: 90},
+		way{what: "one entry, above which more come before line 4", cells: []uint64{5, 6, 70, 80}, q: line(2), steps: []step{load(1, 6), load(0, 5), store(1, 6, 5), load(0, 4).After(0, 4), load(3, 80)}, code: api.Got, value: 80},
+		way{what: "one entry while Top becomes less before line 6", cells: []uint64{5, 6, 70, 80}, q: line(2), steps: []step{load(1, 6), load(0, 5), store(1, 6, 5), load(0, 5), cas(0, 4, 4).After(0, 4), store(1, 5, 6)}, code: api.Empty},
+		way{what: "one entry while Top comes back before line 6", cells: []uint64{5, 6, 70, 80}, q: line(2), steps: []step{load(1, 6), load(0, 5), store(1, 6, 5), load(0, 5), cas(0, 5, 6).After(0, 6).After(0, 5), store(1, 5, 6), load(3, 80)}, code: api.Got, value: 80},
+		way{what: "one entry while Top changes behind line 6", cells: []uint64{5, 6, 70, 80}, q: line(2), steps: []step{load(1, 6), load(0, 5), store(1, 6, 5), load(0, 5), cas(0, 5, 6), store(1, 5, 6).After(0, 60), load(3, 80).After(0, 61)}, code: api.Got, value: 80},
 		// Sizes at line 4 that are as great and as small as can be: Bottom is 0 then.
-		way{what: "one entry while the size becomes the least one", cells: []uint64{0, 1, 70, 80}, q: line(2), steps: []step{load(1, 1), load(0, 0), store(1, 1, 0), load(0, half).after(0, half), store(1, 0, 1)}, code: api.Empty},
-		way{what: "one entry while the size becomes the greatest one", cells: []uint64{0, 1, 70, 80}, q: line(2), steps: []step{load(1, 1), load(0, 0), store(1, 1, 0), load(0, half+1).after(0, half+1), load(2, 70)}, code: api.Got, value: 70},
+		way{what: "one entry while the size becomes the least one", cells: []uint64{0, 1, 70, 80}, q: line(2), steps: []step{load(1, 1), load(0, 0), store(1, 1, 0), load(0, half).After(0, half), store(1, 0, 1)}, code: api.Empty},
+		way{what: "one entry while the size becomes the greatest one", cells: []uint64{0, 1, 70, 80}, q: line(2), steps: []step{load(1, 1), load(0, 0), store(1, 1, 0), load(0, half+1).After(0, half+1), load(2, 70)}, code: api.Got, value: 70},
 
-		way{what: "two entries while the ring changes before line 5", cells: []uint64{0, 2, 70, 80}, q: line(2), steps: []step{load(1, 2), load(0, 0), store(1, 2, 1), load(0, 0).after(3, 81), load(3, 82).after(3, 82).after(2, 72)}, code: api.Got, value: 82},
-		way{what: "one entry while the ring changes before line 8", cells: []uint64{0, 1, 70, 80}, q: line(2), steps: []step{load(1, 1), load(0, 0), store(1, 1, 0), load(0, 0), cas(0, 0, 1), store(1, 0, 1).after(2, 71), load(2, 72).after(2, 72).after(3, 82)}, code: api.Got, value: 72},
+		way{what: "two entries while the ring changes before line 5", cells: []uint64{0, 2, 70, 80}, q: line(2), steps: []step{load(1, 2), load(0, 0), store(1, 2, 1), load(0, 0).After(3, 81), load(3, 82).After(3, 82).After(2, 72)}, code: api.Got, value: 82},
+		way{what: "one entry while the ring changes before line 8", cells: []uint64{0, 1, 70, 80}, q: line(2), steps: []step{load(1, 1), load(0, 0), store(1, 1, 0), load(0, 0), cas(0, 0, 1), store(1, 0, 1).After(2, 71), load(2, 72).After(2, 72).After(3, 82)}, code: api.Got, value: 72},
 	)
 }
 
@@ -436,90 +346,62 @@ func ways() []way {
 	return slices.Concat(pushLines(), pushIndices(), pushCells(), pushValues(), pushOthers(), popLines(), popIndices(), popCells(), popValues(), popOthers())
 }
 
-// begun returns the machine of a way behind some of its steps, and its environment.
-func begun(w way, steps int) (*machine.Env, machine.Machine) {
-	e, x := w.env(), w.make()
-	for _, s := range w.steps[:steps] {
-		for _, p := range s.puts {
-			e.Memory.Store(p.cell, p.v)
-		}
-		x.Step(e)
-	}
-	return e, x
-}
-
 // The copy of a machine at each of its lines, and of one that is done, continues independently, whichever goes on first.
 func TestCopy(t *testing.T) {
 	for _, w := range ways() {
-		for i := range len(w.steps) + 1 {
-			what := fmt.Sprintf("%s: %d steps", w.what, i)
-			e, x := begun(w, i)
-			y, f := x.Copy(), e.Copy()
-			if x == y {
-				t.Fatalf("%s: the copy is the machine itself", what)
-			}
-			checkFrom(t, what+", the original", e, x, w, i)
-			checkFrom(t, what+", the copy of one that is done since", f, y, w, i)
-			e, x = begun(w, i)
-			y, f = x.Copy(), e.Copy()
-			z := y.Copy()
-			g := e.Copy()
-			checkFrom(t, what+", the copy", f, y, w, i)
-			checkFrom(t, what+", the copy of the copy", g, z, w, i)
-			checkFrom(t, what+", the original of one that is done since", e, x, w, i)
-		}
+		steptest.CheckCopies(t, w.whole())
 	}
 }
 
 // The original and its copy go different ways, step by step in turn, if their memories differ.
 func TestCopyGoesAnotherWay(t *testing.T) {
 	w := pops(way{what: "the last entry", cells: []uint64{0, 1, 5, 6}, q: line(2), steps: []step{load(1, 1), load(0, 0), store(1, 1, 0), load(0, 0)}})[0]
-	e, x := begun(w, 4)
+	e, x := w.whole().Begun(4)
 	y, f := x.Copy(), e.Copy()
-	checkStep(t, "the CAS of the original fails", e, x, cas(0, 1, 1).after(0, 1), false)
-	checkStep(t, "the CAS of the copy", f, y, cas(0, 0, 1), false)
-	checkStep(t, "line 9 of the original", e, x, store(1, 0, 1), true)
-	checkResult(t, "the copy while the original is done", y, 0, 0)
-	checkStep(t, "line 7 of the copy", f, y, store(1, 0, 1), false)
-	checkStep(t, "line 8 of the copy", f, y, load(2, 5), true)
-	checkResult(t, "the original", x, api.Empty, 0)
-	checkResult(t, "the copy", y, api.Got, 5)
+	steptest.CheckStep(t, "the CAS of the original fails", e, x, cas(0, 1, 1).After(0, 1), false)
+	steptest.CheckStep(t, "the CAS of the copy", f, y, cas(0, 0, 1), false)
+	steptest.CheckStep(t, "line 9 of the original", e, x, store(1, 0, 1), true)
+	steptest.CheckResult(t, "the copy while the original is done", y, 0, 0)
+	steptest.CheckStep(t, "line 7 of the copy", f, y, store(1, 0, 1), false)
+	steptest.CheckStep(t, "line 8 of the copy", f, y, load(2, 5), true)
+	steptest.CheckResult(t, "the original", x, api.Empty, 0)
+	steptest.CheckResult(t, "the copy", y, api.Got, 5)
 
-	e, x = filled([]uint64{0, 1, 5, 6}), owner.Push(line(2), 9)
+	e, x = steptest.Filled([]uint64{0, 1, 5, 6}), owner.Push(line(2), 9)
 	x.Step(e)
 	y, f = x.Copy(), e.Copy()
-	checkStep(t, "line 2 of the copy", f, y, load(0, top).after(0, top), true)
-	checkStep(t, "line 2 of the original", e, x, load(0, 0), false)
-	checkStep(t, "line 3 of the original", e, x, store(3, 6, 9), false)
-	checkResult(t, "the copy of Push", y, api.Full, 0)
-	checkResult(t, "Push", x, 0, 0)
+	steptest.CheckStep(t, "line 2 of the copy", f, y, load(0, top).After(0, top), true)
+	steptest.CheckStep(t, "line 2 of the original", e, x, load(0, 0), false)
+	steptest.CheckStep(t, "line 3 of the original", e, x, store(3, 6, 9), false)
+	steptest.CheckResult(t, "the copy of Push", y, api.Full, 0)
+	steptest.CheckResult(t, "Push", x, 0, 0)
 }
 
 // R6: a machine that is given to another environment keeps what it has loaded, and accesses the cells of that one.
 func TestOtherEnvironment(t *testing.T) {
 	x := owner.Push(line(2), 9)
-	checkStep(t, "line 1 of Push", filled([]uint64{8, 1, 70, 80}), x, load(1, 1), false)
-	checkStep(t, "line 2 of Push", filled([]uint64{0, 8, 71, 81}), x, load(0, 0), false)
-	checkStep(t, "line 3 of Push", filled([]uint64{8, 8, 72, 82}), x, store(3, 82, 9), false)
-	checkStep(t, "line 4 of Push", filled([]uint64{8, 8, 73, 83}), x, store(1, 8, 2), true)
-	checkStep(t, "Push, done", filled([]uint64{0, 0, 0, 0}), x, none, true)
-	checkResult(t, "Push", x, api.Fine, 0)
+	steptest.CheckStep(t, "line 1 of Push", steptest.Filled([]uint64{8, 1, 70, 80}), x, load(1, 1), false)
+	steptest.CheckStep(t, "line 2 of Push", steptest.Filled([]uint64{0, 8, 71, 81}), x, load(0, 0), false)
+	steptest.CheckStep(t, "line 3 of Push", steptest.Filled([]uint64{8, 8, 72, 82}), x, store(3, 82, 9), false)
+	steptest.CheckStep(t, "line 4 of Push", steptest.Filled([]uint64{8, 8, 73, 83}), x, store(1, 8, 2), true)
+	steptest.CheckStep(t, "Push, done", steptest.Filled([]uint64{0, 0, 0, 0}), x, none, true)
+	steptest.CheckResult(t, "Push", x, api.Fine, 0)
 
 	x = owner.Pop(line(2))
-	checkStep(t, "line 1 of Pop", filled([]uint64{8, 1, 70, 80}), x, load(1, 1), false)
-	checkStep(t, "line 2 of Pop", filled([]uint64{0, 8, 71, 81}), x, load(0, 0), false)
-	checkStep(t, "line 3 of Pop", filled([]uint64{8, 8, 72, 82}), x, store(1, 8, 0), false)
-	checkStep(t, "line 4 of Pop", filled([]uint64{0, 8, 73, 83}), x, load(0, 0), false)
-	checkStep(t, "line 6 of Pop", filled([]uint64{0, 8, 74, 84}), x, cas(0, 0, 1), false)
-	checkStep(t, "line 7 of Pop", filled([]uint64{8, 8, 75, 85}), x, store(1, 8, 1), false)
-	checkStep(t, "line 8 of Pop", filled([]uint64{8, 8, 76, 86}), x, load(2, 76), true)
-	checkStep(t, "Pop, done", filled([]uint64{0, 0, 0, 0}), x, none, true)
-	checkResult(t, "Pop", x, api.Got, 76)
+	steptest.CheckStep(t, "line 1 of Pop", steptest.Filled([]uint64{8, 1, 70, 80}), x, load(1, 1), false)
+	steptest.CheckStep(t, "line 2 of Pop", steptest.Filled([]uint64{0, 8, 71, 81}), x, load(0, 0), false)
+	steptest.CheckStep(t, "line 3 of Pop", steptest.Filled([]uint64{8, 8, 72, 82}), x, store(1, 8, 0), false)
+	steptest.CheckStep(t, "line 4 of Pop", steptest.Filled([]uint64{0, 8, 73, 83}), x, load(0, 0), false)
+	steptest.CheckStep(t, "line 6 of Pop", steptest.Filled([]uint64{0, 8, 74, 84}), x, cas(0, 0, 1), false)
+	steptest.CheckStep(t, "line 7 of Pop", steptest.Filled([]uint64{8, 8, 75, 85}), x, store(1, 8, 1), false)
+	steptest.CheckStep(t, "line 8 of Pop", steptest.Filled([]uint64{8, 8, 76, 86}), x, load(2, 76), true)
+	steptest.CheckStep(t, "Pop, done", steptest.Filled([]uint64{0, 0, 0, 0}), x, none, true)
+	steptest.CheckResult(t, "Pop", x, api.Got, 76)
 
 	// A step without an access for want of cells is a step as well.
 	x = owner.Pop(line(2))
-	checkStep(t, "line 1 of Pop without cells", machine.Bare(0), x, none, false)
-	checkStep(t, "line 2 of Pop behind it", filled([]uint64{top, 8, 77, 87}), x, load(0, top), false)
+	steptest.CheckStep(t, "line 1 of Pop without cells", machine.Bare(0), x, none, false)
+	steptest.CheckStep(t, "line 2 of Pop behind it", steptest.Filled([]uint64{top, 8, 77, 87}), x, load(0, top), false)
 }
 
 // P9.1, P9.2 and R2: the deques of an environment that New returned; two machines that are made by equal calls behave equally, and nothing but the cells of the deque is changed.
@@ -535,7 +417,7 @@ func TestRealDeque(t *testing.T) {
 			for level := range c.Levels {
 				q := e.Layout.Queue(worker, level)
 				for i := range q.Cap + 1 {
-					checkEqual(t, e, f, owner.Push(q, 100*worker+10*level+i), owner.Push(q, 100*worker+10*level+i))
+					steptest.CheckEqual(t, "Push on a deque of the layout", e, f, owner.Push(q, 100*worker+10*level+i), owner.Push(q, 100*worker+10*level+i))
 				}
 			}
 		}
@@ -544,8 +426,8 @@ func TestRealDeque(t *testing.T) {
 				q := e.Layout.Queue(worker, level)
 				for i := q.Cap - 1; i >= 0; i-- {
 					x := owner.Pop(q)
-					checkEqual(t, e, f, x, owner.Pop(q))
-					checkResult(t, "Pop of a deque of the layout", x, api.Got, 100*worker+10*level+i)
+					steptest.CheckEqual(t, "Pop of a deque of the layout", e, f, x, owner.Pop(q))
+					steptest.CheckResult(t, "Pop of a deque of the layout", x, api.Got, 100*worker+10*level+i)
 				}
 			}
 		}
@@ -556,28 +438,11 @@ func TestRealDeque(t *testing.T) {
 		x, y := owner.Push(q, 1), owner.Pop(q)
 		machine.Run(e, x, 10)
 		machine.Run(e, y, 10)
-		checkResult(t, "Push without a deque", x, api.Full, 0)
-		checkResult(t, "Pop without a deque", y, api.Empty, 0)
+		steptest.CheckResult(t, "Push without a deque", x, api.Full, 0)
+		steptest.CheckResult(t, "Pop without a deque", y, api.Empty, 0)
 	}
 	if e.Memory.Count() != count {
 		t.Errorf("machines without a deque made %d accesses", e.Memory.Count()-count)
-	}
-}
-
-// checkEqual lets two machines run in two environments that are equal, and reports an error if they differ, or anything but the memory changes.
-func checkEqual(t *testing.T, e, f *machine.Env, x, y machine.Machine) {
-	t.Helper()
-	rest := beside(e)
-	for done := false; !done; {
-		done = x.Step(e)
-		if d := y.Step(f); d != done || e.Memory.Last() != f.Memory.Last() || e.Memory.Count() != f.Memory.Count() {
-			t.Fatalf("equal machines: %t with %v and %t with %v", done, e.Memory.Last(), d, f.Memory.Last())
-		}
-	}
-	code, value := x.Result()
-	checkResult(t, "an equal machine", y, code, value)
-	if !slices.Equal(e.Memory.Cells(), f.Memory.Cells()) || beside(e) != rest || beside(f) != rest {
-		t.Error("environments of equal machines differ, or more than their memories changed")
 	}
 }
 
@@ -632,7 +497,7 @@ func access(cells []uint64, kind, cell int, change func(x uint64) uint64) (step,
 	}
 	x := cells[cell]
 	cells[cell] = change(x)
-	return step{access: api.Access{Kind: kind, Cell: cell, Old: x, New: cells[cell]}}, x
+	return step{Access: api.Access{Kind: kind, Cell: cell, Old: x, New: cells[cell]}}, x
 }
 
 // reads returns the access of a load, and what is loaded.
@@ -705,7 +570,7 @@ func (m *model) pops(cells []uint64) (next int, s step) {
 			}
 			return x
 		})
-		if s.access.Kind != api.AccessNone && x == m.t {
+		if s.Access.Kind != api.AccessNone && x == m.t {
 			return 7, s
 		}
 		return 9, s
@@ -782,19 +647,20 @@ func checkModel(t *testing.T, m model, cells []uint64, some func(n int) int) str
 	}
 	for m.line != 0 {
 		lines += fmt.Sprint(m.line)
-		var puts []put
+		var puts []steptest.Put
 		if some(4) == 0 {
 			cell := some(len(cells))
 			// Near to what is there: a Top that moves on is the most frequent change.
-			puts = append(puts, put{cell, plus(cells[cell], int64(some(4)-1))})
-			cells[cell] = puts[0].v
+			puts = append(puts, steptest.Put{Cell: cell, V: plus(cells[cell], int64(some(4)-1))})
+			cells[cell] = puts[0].V
 		}
 		s := m.step(cells)
-		s.puts = puts
+		s.Puts = puts
 		w.steps = append(w.steps, s)
 	}
 	w.code, w.value = m.code, m.value
-	checkFrom(t, fmt.Sprintf("%s of %v, entry %d, cells %v", lines, w.q, w.entry, w.cells), w.env(), w.make(), w, 0)
+	w.what = fmt.Sprintf("%s of %v, entry %d, cells %v", lines, w.q, w.entry, w.cells)
+	steptest.Check(t, w.whole())
 	return lines
 }
 
@@ -831,7 +697,7 @@ func checkPush(t *testing.T, e *machine.Env, q api.Queue, stack []int, entry int
 	if n != steps || !done {
 		t.Errorf("Push on %v of %d places: %d steps, %t, want %d", stack, q.Cap, n, done, steps)
 	}
-	checkResult(t, fmt.Sprintf("Push on %v of %d places", stack, q.Cap), x, code, 0)
+	steptest.CheckResult(t, fmt.Sprintf("Push on %v of %d places", stack, q.Cap), x, code, 0)
 	return after
 }
 
@@ -851,7 +717,7 @@ func checkPop(t *testing.T, e *machine.Env, q api.Queue, stack []int) []int {
 	if n != steps || !done {
 		t.Errorf("Pop of %v: %d steps, %t, want %d", stack, n, done, steps)
 	}
-	checkResult(t, fmt.Sprintf("Pop of %v", stack), x, code, value)
+	steptest.CheckResult(t, fmt.Sprintf("Pop of %v", stack), x, code, value)
 	return after
 }
 
@@ -873,6 +739,6 @@ func TestExample(t *testing.T) {
 		if n, done := machine.Run(e, c.x, 100); n != c.steps || !done {
 			t.Errorf("%s: done is %t after %d steps, want %d steps", what, done, n, c.steps)
 		}
-		checkResult(t, what, c.x, c.code, c.value)
+		steptest.CheckResult(t, what, c.x, c.code, c.value)
 	}
 }

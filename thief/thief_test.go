@@ -11,6 +11,7 @@ import (
 	"worksteal/config"
 	"worksteal/machine"
 	"worksteal/owner"
+	"worksteal/steptest"
 	"worksteal/thief"
 )
 
@@ -20,35 +21,14 @@ const (
 	half = 1 << 63
 )
 
-// A put is what another machine puts into a cell.
-type put struct {
-	cell int
-	v    uint64
-}
+// A step is what a step of a machine must do. The tables of ways below are written with these short names.
+type step = steptest.Step
 
-// A step is what a step of a machine must do: its access, which is the zero value if there must be none, behind what another machine puts into cells before it.
-type step struct {
-	access api.Access
-	puts   []put
-}
-
-func load(cell int, v uint64) step {
-	return step{access: api.Access{Kind: api.AccessLoad, Cell: cell, Old: v, New: v}}
-}
-
-// cas returns a CAS, which has failed if old and v are equal.
-func cas(cell int, old, v uint64) step {
-	return step{access: api.Access{Kind: api.AccessCAS, Cell: cell, Old: old, New: v}}
-}
-
-// after returns the step behind one more put.
-func (s step) after(cell int, v uint64) step {
-	s.puts = append(slices.Clone(s.puts), put{cell, v})
-	return s
-}
-
-// none is a step without an access.
-var none = step{}
+var (
+	none = steptest.None()
+	load = steptest.Load
+	cas  = steptest.CAS
+)
 
 // A way is a way of Steal through its lines: the cells at first, the deque, what the steps must do, and the result.
 type way struct {
@@ -59,83 +39,20 @@ type way struct {
 	code, value int
 }
 
-// filled returns a bare environment with cells, an event and a clock that has ticked.
-func filled(cells []uint64) *machine.Env {
-	e := machine.Bare(len(cells))
-	for i, v := range cells {
-		e.Memory.Store(i, v)
-	}
-	e.Clock.Tick()
-	e.Emit(api.Event{Kind: api.EvPark, Worker: 3})
-	return e
-}
-
 // line returns a deque with a capacity whose cells begin with Top, Bottom and the ring.
 func line(capacity int) api.Queue { return api.Queue{Top: 0, Bottom: 1, Ring: 2, Cap: capacity} }
 
-// beside returns a text of all of an environment but its memory.
-func beside(e *machine.Env) string {
-	return fmt.Sprint(e.Config, e.Layout, e.Records, e.Events, *e.Clock)
-}
-
-// checkResult reports an error if a machine does not have a result.
-func checkResult(t *testing.T, what string, x machine.Machine, code, value int) {
-	t.Helper()
-	if c, v := x.Result(); c != code || v != value {
-		t.Errorf("%s: the result is %d and %d, want %d and %d", what, c, v, code, value)
-	}
-}
-
-// checkStep lets a machine perform a step, and reports an error if it does not do what it must, or anything else.
-func checkStep(t *testing.T, what string, e *machine.Env, x machine.Machine, s step, done bool) {
-	t.Helper()
-	for _, p := range s.puts {
-		e.Memory.Store(p.cell, p.v)
-	}
-	cells, count, last, rest := e.Memory.Cells(), e.Memory.Count(), e.Memory.Last(), beside(e)
-	if s.access.Kind != api.AccessNone {
-		count, last = count+1, s.access
-		cells[last.Cell] = last.New
-	}
-	if d := x.Step(e); d != done {
-		t.Errorf("%s: Step returns %t, want %t", what, d, done)
-	}
-	if e.Memory.Count() != count || e.Memory.Last() != last {
-		t.Errorf("%s: access number %d is %v, want number %d, %v", what, e.Memory.Count(), e.Memory.Last(), count, last)
-	}
-	if g := e.Memory.Cells(); !slices.Equal(g, cells) {
-		t.Errorf("%s: the cells are %v, want %v", what, g, cells)
-	}
-	if g := beside(e); g != rest {
-		t.Errorf("%s: beside the memory there is %s, want %s", what, g, rest)
-	}
-}
-
-// checkFrom lets a machine that has performed some of the steps of a way perform the others, and some more when it is done.
-func checkFrom(t *testing.T, what string, e *machine.Env, x machine.Machine, w way, from int) {
-	t.Helper()
-	for i := from; i < len(w.steps); i++ {
-		checkResult(t, fmt.Sprintf("%s before step %d", what, i+1), x, 0, 0)
-		checkStep(t, fmt.Sprintf("%s, step %d", what, i+1), e, x, w.steps[i], i == len(w.steps)-1)
-	}
-	for range 3 {
-		checkResult(t, what+", done", x, w.code, w.value)
-		checkStep(t, what+", a step when it is done", e, x, none, true)
-	}
-	// What becomes of the cells of a deque is nothing to a machine that is done with it.
-	checkStep(t, what+", a step behind a put", e, x, none.after(0, 77).after(1, 78).after(2, 79), true)
-	checkResult(t, what+", done for long", x, w.code, w.value)
+// whole returns a way as steptest plays it.
+func (w way) whole() steptest.Way {
+	steal := func() machine.Machine { return thief.Steal(w.q) }
+	return steptest.Way{What: w.what, Cells: w.cells, Make: steal, Steps: w.steps, Code: w.code, Value: w.value}
 }
 
 // checkWays checks ways from their first to their last step.
 func checkWays(t *testing.T, ways []way) {
 	t.Helper()
 	for _, w := range ways {
-		x := thief.Steal(w.q)
-		if x == nil {
-			t.Fatalf("%s: the machine is nil", w.what)
-		}
-		checkFrom(t, w.what, filled(w.cells), x, w, 0)
+		steptest.Check(t, w.whole())
 	}
 }
 
@@ -146,10 +63,10 @@ func lines() []way {
 		{what: "a size of -1", cells: []uint64{5, 4, 5, 6}, q: line(2), steps: []step{load(0, 5), load(1, 4)}, code: api.Empty},
 		{what: "a size of -5", cells: []uint64{5, 0, 5, 6}, q: line(2), steps: []step{load(0, 5), load(1, 0)}, code: api.Empty},
 		{what: "one entry", cells: []uint64{0, 1, 5, 6}, q: line(2), steps: []step{load(0, 0), load(1, 1), load(2, 5), cas(0, 0, 1)}, code: api.Got, value: 5},
-		{what: "one entry, which is taken before line 4", cells: []uint64{0, 1, 5, 6}, q: line(2), steps: []step{load(0, 0), load(1, 1), load(2, 5), cas(0, 1, 1).after(0, 1)}, code: api.Abort},
+		{what: "one entry, which is taken before line 4", cells: []uint64{0, 1, 5, 6}, q: line(2), steps: []step{load(0, 0), load(1, 1), load(2, 5), cas(0, 1, 1).After(0, 1)}, code: api.Abort},
 		{what: "two entries of three", cells: []uint64{0, 2, 5, 6, 7}, q: line(3), steps: []step{load(0, 0), load(1, 2), load(2, 5), cas(0, 0, 1)}, code: api.Got, value: 5},
 		{what: "a full deque", cells: []uint64{0, 3, 5, 6, 7}, q: line(3), steps: []step{load(0, 0), load(1, 3), load(2, 5), cas(0, 0, 1)}, code: api.Got, value: 5},
-		{what: "a full deque, of which another thief takes one before line 4", cells: []uint64{0, 3, 5, 6, 7}, q: line(3), steps: []step{load(0, 0), load(1, 3), load(2, 5), cas(0, 1, 1).after(0, 1)}, code: api.Abort},
+		{what: "a full deque, of which another thief takes one before line 4", cells: []uint64{0, 3, 5, 6, 7}, q: line(3), steps: []step{load(0, 0), load(1, 3), load(2, 5), cas(0, 1, 1).After(0, 1)}, code: api.Abort},
 		{what: "the last one of three", cells: []uint64{2, 3, 5, 6, 7}, q: line(3), steps: []step{load(0, 2), load(1, 3), load(4, 7), cas(0, 2, 3)}, code: api.Got, value: 7},
 		{what: "a deque with too many entries", cells: []uint64{0, 5, 5, 6}, q: line(2), steps: []step{load(0, 0), load(1, 5), load(2, 5), cas(0, 0, 1)}, code: api.Got, value: 5},
 		{what: "a deque of other cells", cells: []uint64{4, 40, 50, 60, 0, 6}, q: api.Queue{Top: 0, Bottom: 5, Ring: 1, Cap: 4}, steps: []step{load(0, 4), load(5, 6), load(1, 40), cas(0, 4, 5)}, code: api.Got, value: 40},
@@ -159,7 +76,7 @@ func lines() []way {
 		{what: "an empty deque of one place", cells: []uint64{7, 7, 3}, q: line(1), steps: []step{load(0, 7), load(1, 7)}, code: api.Empty},
 		{what: "an empty deque of no place", cells: []uint64{4, 4, 3}, q: line(0), steps: []step{load(0, 4), load(1, 4)}, code: api.Empty},
 		{what: "two entries and no place", cells: []uint64{0, 2, 5, 6}, q: line(0), steps: []step{load(0, 0), load(1, 2), none, cas(0, 0, 1)}, code: api.Got},
-		{what: "an entry and no place, which is taken before line 4", cells: []uint64{0, 1, 5, 6}, q: line(0), steps: []step{load(0, 0), load(1, 1), none, cas(0, 1, 1).after(0, 1)}, code: api.Abort},
+		{what: "an entry and no place, which is taken before line 4", cells: []uint64{0, 1, 5, 6}, q: line(0), steps: []step{load(0, 0), load(1, 1), none, cas(0, 1, 1).After(0, 1)}, code: api.Abort},
 		{what: "two entries and a negative capacity", cells: []uint64{0, 2, 5, 6}, q: line(-1), steps: []step{load(0, 0), load(1, 2), none, cas(0, 0, 1)}, code: api.Got},
 		{what: "an empty deque of a negative capacity", cells: []uint64{3, 3, 5, 6}, q: line(-2), steps: []step{load(0, 3), load(1, 3)}, code: api.Empty},
 		{what: "a size above a negative capacity", cells: []uint64{4, 3, 5, 6}, q: line(-2), steps: []step{load(0, 4), load(1, 3)}, code: api.Empty},
@@ -194,7 +111,7 @@ func indices() []way {
 		{what: "the last index of a word", cells: []uint64{top, 0, 1, 2, 3, 4}, q: line(4), steps: []step{load(0, top), load(1, 0), load(5, 4), cas(0, top, 0)}, code: api.Got, value: 4},
 		{what: "the last index of a word, above which is another one", cells: []uint64{top, 1, 1, 2, 3}, q: line(3), steps: []step{load(0, top), load(1, 1), load(2, 1), cas(0, top, 0)}, code: api.Got, value: 1},
 		{what: "the last index but one of a word", cells: []uint64{top - 1, 0, 1, 2, 3}, q: line(3), steps: []step{load(0, top-1), load(1, 0), load(4, 3), cas(0, top-1, top)}, code: api.Got, value: 3},
-		{what: "the last index of a word, which is taken before line 4", cells: []uint64{top, 0, 1, 2, 3}, q: line(3), steps: []step{load(0, top), load(1, 0), load(2, 1), cas(0, 0, 0).after(0, 0)}, code: api.Abort},
+		{what: "the last index of a word, which is taken before line 4", cells: []uint64{top, 0, 1, 2, 3}, q: line(3), steps: []step{load(0, top), load(1, 0), load(2, 1), cas(0, 0, 0).After(0, 0)}, code: api.Abort},
 		{what: "an empty deque at 2^64 - 1", cells: []uint64{top, top, 1, 2, 3}, q: line(3), steps: []step{load(0, top), load(1, top)}, code: api.Empty},
 	}
 }
@@ -213,7 +130,7 @@ func places() []way {
 		{what: "an entry without Top and places", cells: []uint64{0, 1, 5, 6}, q: api.Queue{Top: -1, Bottom: 1, Ring: -1}, steps: []step{none, load(1, 1), none, none}, code: api.Abort},
 		{what: "an empty deque without Top", cells: []uint64{0, 0, 5, 6}, q: api.Queue{Top: 4, Bottom: 1, Ring: 2, Cap: 2}, steps: []step{none, load(1, 0)}, code: api.Empty},
 		{what: "one entry without Bottom", cells: []uint64{top, 0, 5, 6}, q: api.Queue{Top: 0, Bottom: 4, Ring: 2, Cap: 2}, steps: []step{load(0, top), none, load(3, 6), cas(0, top, 0)}, code: api.Got, value: 6},
-		{what: "one entry without Bottom, which is taken before line 4", cells: []uint64{top, 0, 5, 6}, q: api.Queue{Top: 0, Bottom: -1, Ring: 2, Cap: 2}, steps: []step{load(0, top), none, load(3, 6), cas(0, 0, 0).after(0, 0)}, code: api.Abort},
+		{what: "one entry without Bottom, which is taken before line 4", cells: []uint64{top, 0, 5, 6}, q: api.Queue{Top: 0, Bottom: -1, Ring: 2, Cap: 2}, steps: []step{load(0, top), none, load(3, 6), cas(0, 0, 0).After(0, 0)}, code: api.Abort},
 		{what: "an empty deque without Bottom", cells: []uint64{1, 1, 5, 6}, q: api.Queue{Top: 0, Bottom: -1, Ring: 2, Cap: 2}, steps: []step{load(0, 1), none}, code: api.Empty},
 		{what: "one entry without a ring", cells: []uint64{0, 1, 5, 6}, q: api.Queue{Top: 0, Bottom: 1, Ring: 4, Cap: 2}, steps: []step{load(0, 0), load(1, 1), none, cas(0, 0, 1)}, code: api.Got},
 		{what: "one entry with a ring at the least int", cells: []uint64{1, 2, 5, 6}, q: api.Queue{Top: 0, Bottom: 1, Ring: math.MinInt, Cap: 2}, steps: []step{load(0, 1), load(1, 2), none, cas(0, 1, 2)}, code: api.Got},
@@ -222,8 +139,8 @@ func places() []way {
 		{what: "a ring at a negative cell", cells: []uint64{4, 5, 7, 8}, q: api.Queue{Top: 0, Bottom: 1, Ring: -2, Cap: 9}, steps: []step{load(0, 4), load(1, 5), load(2, 7), cas(0, 4, 5)}, code: api.Got, value: 7},
 		{what: "a negative place of this ring", cells: []uint64{1, 2, 7, 8}, q: api.Queue{Top: 0, Bottom: 1, Ring: -2, Cap: 9}, steps: []step{load(0, 1), load(1, 2), none, cas(0, 1, 2)}, code: api.Got},
 		{what: "a deque whose Bottom is its Top", cells: []uint64{5, 7, 8}, q: api.Queue{Top: 0, Bottom: 0, Ring: 1, Cap: 2}, steps: []step{load(0, 5), load(0, 5)}, code: api.Empty},
-		{what: "a deque whose Bottom is its Top, which changes", cells: []uint64{5, 7, 8}, q: api.Queue{Top: 0, Bottom: 0, Ring: 1, Cap: 2}, steps: []step{load(0, 5), load(0, 6).after(0, 6), load(2, 8), cas(0, 6, 6)}, code: api.Abort},
-		{what: "a deque whose Bottom is its Top, which changes and comes back", cells: []uint64{5, 7, 8}, q: api.Queue{Top: 0, Bottom: 0, Ring: 1, Cap: 2}, steps: []step{load(0, 5), load(0, 6).after(0, 6), load(2, 8), cas(0, 5, 6).after(0, 5)}, code: api.Got, value: 8},
+		{what: "a deque whose Bottom is its Top, which changes", cells: []uint64{5, 7, 8}, q: api.Queue{Top: 0, Bottom: 0, Ring: 1, Cap: 2}, steps: []step{load(0, 5), load(0, 6).After(0, 6), load(2, 8), cas(0, 6, 6)}, code: api.Abort},
+		{what: "a deque whose Bottom is its Top, which changes and comes back", cells: []uint64{5, 7, 8}, q: api.Queue{Top: 0, Bottom: 0, Ring: 1, Cap: 2}, steps: []step{load(0, 5), load(0, 6).After(0, 6), load(2, 8), cas(0, 5, 6).After(0, 5)}, code: api.Got, value: 8},
 		{what: "a deque whose ring is its Top", cells: []uint64{4, 6}, q: api.Queue{Top: 0, Bottom: 1, Ring: 0, Cap: 1}, steps: []step{load(0, 4), load(1, 6), load(0, 4), cas(0, 4, 5)}, code: api.Got, value: 4},
 		{what: "a deque whose ring is its Bottom", cells: []uint64{4, 6}, q: api.Queue{Top: 0, Bottom: 1, Ring: 1, Cap: 1}, steps: []step{load(0, 4), load(1, 6), load(1, 6), cas(0, 4, 5)}, code: api.Got, value: 6},
 	}
@@ -240,7 +157,7 @@ func values() []way {
 	} {
 		l = append(l,
 			way{what: fmt.Sprintf("the entry %#x", x.cell), cells: []uint64{1, 2, 70, x.cell}, q: line(2), steps: []step{load(0, 1), load(1, 2), load(3, x.cell), cas(0, 1, 2)}, code: api.Got, value: x.value},
-			way{what: fmt.Sprintf("the entry %#x, which is taken before line 4", x.cell), cells: []uint64{1, 2, 70, x.cell}, q: line(2), steps: []step{load(0, 1), load(1, 2), load(3, x.cell), cas(0, 2, 2).after(0, 2)}, code: api.Abort},
+			way{what: fmt.Sprintf("the entry %#x, which is taken before line 4", x.cell), cells: []uint64{1, 2, 70, x.cell}, q: line(2), steps: []step{load(0, 1), load(1, 2), load(3, x.cell), cas(0, 2, 2).After(0, 2)}, code: api.Abort},
 		)
 	}
 	return l
@@ -249,30 +166,30 @@ func values() []way {
 // others returns the ways of Steal while another machine changes the cells. The lines that load a cell see what it contains then, and the others go on with what was loaded.
 func others() []way {
 	return []way{
-		{what: "Top changes before line 1", cells: []uint64{0, 2, 70, 80}, q: line(2), steps: []step{load(0, 1).after(0, 1), load(1, 2), load(3, 80), cas(0, 1, 2)}, code: api.Got, value: 80},
-		{what: "all is taken before line 1", cells: []uint64{0, 2, 70, 80}, q: line(2), steps: []step{load(0, 2).after(0, 2), load(1, 2)}, code: api.Empty},
-		{what: "one is taken before line 2", cells: []uint64{0, 2, 70, 80}, q: line(2), steps: []step{load(0, 0), load(1, 2).after(0, 1), load(2, 70), cas(0, 1, 1)}, code: api.Abort},
-		{what: "all is taken at the top before line 2", cells: []uint64{0, 2, 70, 80}, q: line(2), steps: []step{load(0, 0), load(1, 2).after(0, 2), load(2, 70), cas(0, 2, 2)}, code: api.Abort},
-		{what: "an empty deque whose Top becomes less before line 2", cells: []uint64{2, 2, 70, 80}, q: line(2), steps: []step{load(0, 2), load(1, 2).after(0, 0)}, code: api.Empty},
-		{what: "one is taken before line 3", cells: []uint64{0, 2, 70, 80}, q: line(2), steps: []step{load(0, 0), load(1, 2), load(2, 70).after(0, 1), cas(0, 1, 1)}, code: api.Abort},
-		{what: "one is taken before line 4", cells: []uint64{0, 2, 70, 80}, q: line(2), steps: []step{load(0, 0), load(1, 2), load(2, 70), cas(0, 1, 1).after(0, 1)}, code: api.Abort},
-		{what: "several are taken before line 4", cells: []uint64{0, 2, 70, 80}, q: line(2), steps: []step{load(0, 0), load(1, 2).after(0, 1), load(2, 70).after(0, 2), cas(0, 9, 9).after(0, 9)}, code: api.Abort},
-		{what: "Top becomes less before line 4", cells: []uint64{5, 6, 70, 80}, q: line(2), steps: []step{load(0, 5), load(1, 6), load(3, 80), cas(0, 4, 4).after(0, 4)}, code: api.Abort},
-		{what: "Top comes back before line 4", cells: []uint64{5, 6, 70, 80}, q: line(2), steps: []step{load(0, 5), load(1, 6).after(0, 6), load(3, 80), cas(0, 5, 6).after(0, 5)}, code: api.Got, value: 80},
-		{what: "Top becomes 0 before line 4", cells: []uint64{5, 6, 70, 80}, q: line(2), steps: []step{load(0, 5), load(1, 6), load(3, 80), cas(0, 0, 0).after(0, 0)}, code: api.Abort},
+		{what: "Top changes before line 1", cells: []uint64{0, 2, 70, 80}, q: line(2), steps: []step{load(0, 1).After(0, 1), load(1, 2), load(3, 80), cas(0, 1, 2)}, code: api.Got, value: 80},
+		{what: "all is taken before line 1", cells: []uint64{0, 2, 70, 80}, q: line(2), steps: []step{load(0, 2).After(0, 2), load(1, 2)}, code: api.Empty},
+		{what: "one is taken before line 2", cells: []uint64{0, 2, 70, 80}, q: line(2), steps: []step{load(0, 0), load(1, 2).After(0, 1), load(2, 70), cas(0, 1, 1)}, code: api.Abort},
+		{what: "all is taken at the top before line 2", cells: []uint64{0, 2, 70, 80}, q: line(2), steps: []step{load(0, 0), load(1, 2).After(0, 2), load(2, 70), cas(0, 2, 2)}, code: api.Abort},
+		{what: "an empty deque whose Top becomes less before line 2", cells: []uint64{2, 2, 70, 80}, q: line(2), steps: []step{load(0, 2), load(1, 2).After(0, 0)}, code: api.Empty},
+		{what: "one is taken before line 3", cells: []uint64{0, 2, 70, 80}, q: line(2), steps: []step{load(0, 0), load(1, 2), load(2, 70).After(0, 1), cas(0, 1, 1)}, code: api.Abort},
+		{what: "one is taken before line 4", cells: []uint64{0, 2, 70, 80}, q: line(2), steps: []step{load(0, 0), load(1, 2), load(2, 70), cas(0, 1, 1).After(0, 1)}, code: api.Abort},
+		{what: "several are taken before line 4", cells: []uint64{0, 2, 70, 80}, q: line(2), steps: []step{load(0, 0), load(1, 2).After(0, 1), load(2, 70).After(0, 2), cas(0, 9, 9).After(0, 9)}, code: api.Abort},
+		{what: "Top becomes less before line 4", cells: []uint64{5, 6, 70, 80}, q: line(2), steps: []step{load(0, 5), load(1, 6), load(3, 80), cas(0, 4, 4).After(0, 4)}, code: api.Abort},
+		{what: "Top comes back before line 4", cells: []uint64{5, 6, 70, 80}, q: line(2), steps: []step{load(0, 5), load(1, 6).After(0, 6), load(3, 80), cas(0, 5, 6).After(0, 5)}, code: api.Got, value: 80},
+		{what: "Top becomes 0 before line 4", cells: []uint64{5, 6, 70, 80}, q: line(2), steps: []step{load(0, 5), load(1, 6), load(3, 80), cas(0, 0, 0).After(0, 0)}, code: api.Abort},
 
-		{what: "Bottom changes before line 1", cells: []uint64{0, 0, 70, 80}, q: line(2), steps: []step{load(0, 0).after(1, 1), load(1, 1), load(2, 70), cas(0, 0, 1)}, code: api.Got, value: 70},
-		{what: "the owner pushes before line 2", cells: []uint64{1, 1, 70, 80}, q: line(2), steps: []step{load(0, 1), load(1, 2).after(3, 81).after(1, 2), load(3, 81), cas(0, 1, 2)}, code: api.Got, value: 81},
-		{what: "the owner pops before line 2", cells: []uint64{0, 1, 70, 80}, q: line(2), steps: []step{load(0, 0), load(1, 0).after(1, 0)}, code: api.Empty},
-		{what: "the owner pops before line 3", cells: []uint64{0, 2, 70, 80}, q: line(2), steps: []step{load(0, 0), load(1, 2), load(2, 70).after(1, 1), cas(0, 0, 1)}, code: api.Got, value: 70},
-		{what: "Bottom falls below Top before lines 3 and 4", cells: []uint64{5, 6, 70, 80}, q: line(2), steps: []step{load(0, 5), load(1, 6), load(3, 80).after(1, 4), cas(0, 5, 6).after(1, 0)}, code: api.Got, value: 80},
-		{what: "the owner pushes before lines 3 and 4", cells: []uint64{0, 1, 70, 80, 90}, q: line(3), steps: []step{load(0, 0), load(1, 1), load(2, 70).after(1, 2), cas(0, 0, 1).after(1, 3)}, code: api.Got, value: 70},
+		{what: "Bottom changes before line 1", cells: []uint64{0, 0, 70, 80}, q: line(2), steps: []step{load(0, 0).After(1, 1), load(1, 1), load(2, 70), cas(0, 0, 1)}, code: api.Got, value: 70},
+		{what: "the owner pushes before line 2", cells: []uint64{1, 1, 70, 80}, q: line(2), steps: []step{load(0, 1), load(1, 2).After(3, 81).After(1, 2), load(3, 81), cas(0, 1, 2)}, code: api.Got, value: 81},
+		{what: "the owner pops before line 2", cells: []uint64{0, 1, 70, 80}, q: line(2), steps: []step{load(0, 0), load(1, 0).After(1, 0)}, code: api.Empty},
+		{what: "the owner pops before line 3", cells: []uint64{0, 2, 70, 80}, q: line(2), steps: []step{load(0, 0), load(1, 2), load(2, 70).After(1, 1), cas(0, 0, 1)}, code: api.Got, value: 70},
+		{what: "Bottom falls below Top before lines 3 and 4", cells: []uint64{5, 6, 70, 80}, q: line(2), steps: []step{load(0, 5), load(1, 6), load(3, 80).After(1, 4), cas(0, 5, 6).After(1, 0)}, code: api.Got, value: 80},
+		{what: "the owner pushes before lines 3 and 4", cells: []uint64{0, 1, 70, 80, 90}, q: line(3), steps: []step{load(0, 0), load(1, 1), load(2, 70).After(1, 2), cas(0, 0, 1).After(1, 3)}, code: api.Got, value: 70},
 
-		{what: "the entry changes before lines 1 and 2", cells: []uint64{0, 1, 70, 80}, q: line(2), steps: []step{load(0, 0).after(2, 71), load(1, 1).after(2, 72), load(2, 72), cas(0, 0, 1)}, code: api.Got, value: 72},
-		{what: "the entry changes before line 3", cells: []uint64{0, 1, 70, 80}, q: line(2), steps: []step{load(0, 0), load(1, 1), load(2, 71).after(2, 71).after(3, 81), cas(0, 0, 1)}, code: api.Got, value: 71},
-		{what: "the entry changes before line 4", cells: []uint64{0, 1, 70, 80}, q: line(2), steps: []step{load(0, 0), load(1, 1), load(2, 70), cas(0, 0, 1).after(2, 71)}, code: api.Got, value: 70},
-		{what: "the entry changes before lines 3 and 4", cells: []uint64{0, 1, 70, 80}, q: line(2), steps: []step{load(0, 0), load(1, 1), load(2, top).after(2, top), cas(0, 0, 1).after(2, 71)}, code: api.Got, value: -1},
-		{what: "the entry is taken and its place used again before line 4", cells: []uint64{0, 2, 70, 80}, q: line(2), steps: []step{load(0, 0), load(1, 2), load(2, 70), cas(0, 1, 1).after(0, 1).after(2, 71).after(1, 3)}, code: api.Abort},
+		{what: "the entry changes before lines 1 and 2", cells: []uint64{0, 1, 70, 80}, q: line(2), steps: []step{load(0, 0).After(2, 71), load(1, 1).After(2, 72), load(2, 72), cas(0, 0, 1)}, code: api.Got, value: 72},
+		{what: "the entry changes before line 3", cells: []uint64{0, 1, 70, 80}, q: line(2), steps: []step{load(0, 0), load(1, 1), load(2, 71).After(2, 71).After(3, 81), cas(0, 0, 1)}, code: api.Got, value: 71},
+		{what: "the entry changes before line 4", cells: []uint64{0, 1, 70, 80}, q: line(2), steps: []step{load(0, 0), load(1, 1), load(2, 70), cas(0, 0, 1).After(2, 71)}, code: api.Got, value: 70},
+		{what: "the entry changes before lines 3 and 4", cells: []uint64{0, 1, 70, 80}, q: line(2), steps: []step{load(0, 0), load(1, 1), load(2, top).After(2, top), cas(0, 0, 1).After(2, 71)}, code: api.Got, value: -1},
+		{what: "the entry is taken and its place used again before line 4", cells: []uint64{0, 2, 70, 80}, q: line(2), steps: []step{load(0, 0), load(1, 2), load(2, 70), cas(0, 1, 1).After(0, 1).After(2, 71).After(1, 3)}, code: api.Abort},
 	}
 }
 
@@ -291,73 +208,45 @@ func TestValues(t *testing.T) { checkWays(t, values()) }
 // P10.1: what another machine changes between two lines.
 func TestOthers(t *testing.T) { checkWays(t, others()) }
 
-// begun returns the machine of a way behind some of its steps, and its environment.
-func begun(w way, steps int) (*machine.Env, machine.Machine) {
-	e, x := filled(w.cells), thief.Steal(w.q)
-	for _, s := range w.steps[:steps] {
-		for _, p := range s.puts {
-			e.Memory.Store(p.cell, p.v)
-		}
-		x.Step(e)
-	}
-	return e, x
-}
-
 // The copy of a machine at each of its lines, and of one that is done, continues independently, whichever goes on first.
 func TestCopy(t *testing.T) {
 	for _, w := range slices.Concat(lines(), indices(), places(), values(), others()) {
-		for i := range len(w.steps) + 1 {
-			what := fmt.Sprintf("%s: %d steps", w.what, i)
-			e, x := begun(w, i)
-			y, f := x.Copy(), e.Copy()
-			if x == y {
-				t.Fatalf("%s: the copy is the machine itself", what)
-			}
-			checkFrom(t, what+", the original", e, x, w, i)
-			checkFrom(t, what+", the copy of one that is done since", f, y, w, i)
-			e, x = begun(w, i)
-			y, f = x.Copy(), e.Copy()
-			z := y.Copy()
-			g := e.Copy()
-			checkFrom(t, what+", the copy", f, y, w, i)
-			checkFrom(t, what+", the copy of the copy", g, z, w, i)
-			checkFrom(t, what+", the original of one that is done since", e, x, w, i)
-		}
+		steptest.CheckCopies(t, w.whole())
 	}
 }
 
 // The original and its copies go different ways, step by step in turn, if their memories differ.
 func TestCopyGoesAnotherWay(t *testing.T) {
-	e, x := filled([]uint64{0, 1, 70, 80}), thief.Steal(line(2))
-	checkStep(t, "line 1", e, x, load(0, 0), false)
+	e, x := steptest.Filled([]uint64{0, 1, 70, 80}), thief.Steal(line(2))
+	steptest.CheckStep(t, "line 1", e, x, load(0, 0), false)
 	y, f := x.Copy(), e.Copy()
-	checkStep(t, "line 2 of the copy", f, y, load(1, 0).after(1, 0), true)
-	checkStep(t, "line 2 of the original", e, x, load(1, 1), false)
-	checkResult(t, "the original while the copy is done", x, 0, 0)
+	steptest.CheckStep(t, "line 2 of the copy", f, y, load(1, 0).After(1, 0), true)
+	steptest.CheckStep(t, "line 2 of the original", e, x, load(1, 1), false)
+	steptest.CheckResult(t, "the original while the copy is done", x, 0, 0)
 	z, g := x.Copy(), e.Copy()
-	checkStep(t, "line 3 of the original", e, x, load(2, 71).after(2, 71), false)
-	checkStep(t, "line 3 of the second copy", g, z, load(2, 72).after(2, 72), false)
-	checkStep(t, "line 4 of the second copy", g, z, cas(0, 1, 1).after(0, 1), true)
-	checkResult(t, "the original while the second copy is done", x, 0, 0)
-	checkStep(t, "line 4 of the original", e, x, cas(0, 0, 1), true)
-	checkResult(t, "the copy", y, api.Empty, 0)
-	checkResult(t, "the second copy", z, api.Abort, 0)
-	checkResult(t, "the original", x, api.Got, 71)
+	steptest.CheckStep(t, "line 3 of the original", e, x, load(2, 71).After(2, 71), false)
+	steptest.CheckStep(t, "line 3 of the second copy", g, z, load(2, 72).After(2, 72), false)
+	steptest.CheckStep(t, "line 4 of the second copy", g, z, cas(0, 1, 1).After(0, 1), true)
+	steptest.CheckResult(t, "the original while the second copy is done", x, 0, 0)
+	steptest.CheckStep(t, "line 4 of the original", e, x, cas(0, 0, 1), true)
+	steptest.CheckResult(t, "the copy", y, api.Empty, 0)
+	steptest.CheckResult(t, "the second copy", z, api.Abort, 0)
+	steptest.CheckResult(t, "the original", x, api.Got, 71)
 }
 
 // A machine and its copy in one environment are two thieves: one of them gets the entry.
 func TestCopyIsAnotherThief(t *testing.T) {
 	for i := range 4 {
-		e, x := filled([]uint64{0, 1, 70, 80}), thief.Steal(line(2))
+		e, x := steptest.Filled([]uint64{0, 1, 70, 80}), thief.Steal(line(2))
 		machine.Run(e, x, i)
 		y := x.Copy()
 		machine.Run(e, y, 4)
-		checkResult(t, "the copy", y, api.Got, 70)
+		steptest.CheckResult(t, "the copy", y, api.Got, 70)
 		machine.Run(e, x, 4)
 		if i == 0 {
-			checkResult(t, "the original, which loads Top behind the copy", x, api.Empty, 0)
+			steptest.CheckResult(t, "the original, which loads Top behind the copy", x, api.Empty, 0)
 		} else {
-			checkResult(t, "the original", x, api.Abort, 0)
+			steptest.CheckResult(t, "the original", x, api.Abort, 0)
 		}
 	}
 }
@@ -365,20 +254,20 @@ func TestCopyIsAnotherThief(t *testing.T) {
 // R6: a machine that is given to another environment keeps what it has loaded, and accesses the cells of that one.
 func TestOtherEnvironment(t *testing.T) {
 	x := thief.Steal(line(2))
-	checkStep(t, "line 1", filled([]uint64{1, 8, 70, 80}), x, load(0, 1), false)
-	checkStep(t, "line 2", filled([]uint64{8, 2, 71, 81}), x, load(1, 2), false)
-	checkStep(t, "line 3", filled([]uint64{8, 8, 72, 82}), x, load(3, 82), false)
-	checkStep(t, "line 4", filled([]uint64{1, 0, 73, 83}), x, cas(0, 1, 2), true)
-	checkStep(t, "a step when it is done", filled([]uint64{0, 1, 74, 84}), x, none, true)
-	checkResult(t, "Steal", x, api.Got, 82)
+	steptest.CheckStep(t, "line 1", steptest.Filled([]uint64{1, 8, 70, 80}), x, load(0, 1), false)
+	steptest.CheckStep(t, "line 2", steptest.Filled([]uint64{8, 2, 71, 81}), x, load(1, 2), false)
+	steptest.CheckStep(t, "line 3", steptest.Filled([]uint64{8, 8, 72, 82}), x, load(3, 82), false)
+	steptest.CheckStep(t, "line 4", steptest.Filled([]uint64{1, 0, 73, 83}), x, cas(0, 1, 2), true)
+	steptest.CheckStep(t, "a step when it is done", steptest.Filled([]uint64{0, 1, 74, 84}), x, none, true)
+	steptest.CheckResult(t, "Steal", x, api.Got, 82)
 
 	// A step without an access for want of cells is a step as well.
 	x = thief.Steal(line(2))
-	checkStep(t, "line 1 without cells", machine.Bare(0), x, none, false)
-	checkStep(t, "line 2 behind it", filled([]uint64{8, 1, 75, 85}), x, load(1, 1), false)
-	checkStep(t, "line 3 without cells", machine.Bare(0), x, none, false)
-	checkStep(t, "line 4 behind it", filled([]uint64{0, 8, 76, 86}), x, cas(0, 0, 1), true)
-	checkResult(t, "Steal of an entry that did not exist", x, api.Got, 0)
+	steptest.CheckStep(t, "line 1 without cells", machine.Bare(0), x, none, false)
+	steptest.CheckStep(t, "line 2 behind it", steptest.Filled([]uint64{8, 1, 75, 85}), x, load(1, 1), false)
+	steptest.CheckStep(t, "line 3 without cells", machine.Bare(0), x, none, false)
+	steptest.CheckStep(t, "line 4 behind it", steptest.Filled([]uint64{0, 8, 76, 86}), x, cas(0, 0, 1), true)
+	steptest.CheckResult(t, "Steal of an entry that did not exist", x, api.Got, 0)
 }
 
 // P10.1 and R2: the deques of an environment that New returned; two machines that are made by equal calls behave equally, and nothing but the cells of the deque is changed.
@@ -403,12 +292,12 @@ func TestRealDeque(t *testing.T) {
 				q := e.Layout.Queue(worker, level)
 				for i := range q.Cap {
 					x := thief.Steal(q)
-					checkEqual(t, e, f, x, thief.Steal(q))
-					checkResult(t, "Steal from a deque of the layout", x, api.Got, 100*worker+10*level+i)
+					steptest.CheckEqual(t, "Steal from a deque of the layout", e, f, x, thief.Steal(q))
+					steptest.CheckResult(t, "Steal from a deque of the layout", x, api.Got, 100*worker+10*level+i)
 				}
 				x := thief.Steal(q)
-				checkEqual(t, e, f, x, thief.Steal(q))
-				checkResult(t, "Steal from an empty deque of the layout", x, api.Empty, 0)
+				steptest.CheckEqual(t, "Steal from a deque of the layout", e, f, x, thief.Steal(q))
+				steptest.CheckResult(t, "Steal from an empty deque of the layout", x, api.Empty, 0)
 			}
 		}
 	}
@@ -419,27 +308,10 @@ func TestRealDeque(t *testing.T) {
 		if n, done := machine.Run(e, x, 10); n != 2 || !done {
 			t.Errorf("Steal without a deque: %d steps, done is %t", n, done)
 		}
-		checkResult(t, "Steal without a deque", x, api.Empty, 0)
+		steptest.CheckResult(t, "Steal without a deque", x, api.Empty, 0)
 	}
 	if e.Memory.Count() != count {
 		t.Errorf("machines without a deque made %d accesses", e.Memory.Count()-count)
-	}
-}
-
-// checkEqual lets two machines run in two environments that are equal, and reports an error if they differ, or anything but the memory changes.
-func checkEqual(t *testing.T, e, f *machine.Env, x, y machine.Machine) {
-	t.Helper()
-	rest := beside(e)
-	for done := false; !done; {
-		done = x.Step(e)
-		if d := y.Step(f); d != done || e.Memory.Last() != f.Memory.Last() || e.Memory.Count() != f.Memory.Count() {
-			t.Fatalf("equal machines: %t with %v and %t with %v", done, e.Memory.Last(), d, f.Memory.Last())
-		}
-	}
-	code, value := x.Result()
-	checkResult(t, "an equal machine", y, code, value)
-	if !slices.Equal(e.Memory.Cells(), f.Memory.Cells()) || beside(e) != rest || beside(f) != rest {
-		t.Error("environments of equal machines differ, or more than their memories changed")
 	}
 }
 
@@ -518,7 +390,7 @@ func (m *model) step(cells []uint64) step {
 // takes performs line 4 on cells, and returns its access.
 func (m *model) takes(cells []uint64) step {
 	s, x := reads(cells, m.q.Top)
-	if s.access == none.access {
+	if s.Access == none.Access {
 		m.done(api.Abort, 0)
 		return none
 	}
@@ -591,19 +463,20 @@ func checkModel(t *testing.T, m model, cells []uint64, some func(n int) int) str
 	lines := ""
 	for m.line != 0 {
 		lines += fmt.Sprint(m.line)
-		var puts []put
+		var puts []steptest.Put
 		if some(4) == 0 {
 			cell := some(len(cells))
 			// Near to what is there: a Top that moves on is the most frequent change.
-			puts = append(puts, put{cell, plus(cells[cell], int64(some(4)-1))})
-			cells[cell] = puts[0].v
+			puts = append(puts, steptest.Put{Cell: cell, V: plus(cells[cell], int64(some(4)-1))})
+			cells[cell] = puts[0].V
 		}
 		s := m.step(cells)
-		s.puts = puts
+		s.Puts = puts
 		w.steps = append(w.steps, s)
 	}
 	w.code, w.value = m.code, m.value
-	checkFrom(t, fmt.Sprintf("%s of %v, cells %v", lines, w.q, w.cells), filled(w.cells), thief.Steal(w.q), w, 0)
+	w.what = fmt.Sprintf("%s of %v, cells %v", lines, w.q, w.cells)
+	steptest.Check(t, w.whole())
 	return lines + ", " + map[int]string{api.Empty: "Empty", api.Got: "Got", api.Abort: "Abort"}[m.code]
 }
 
@@ -643,7 +516,7 @@ func checkSteal(t *testing.T, e *machine.Env, q api.Queue, entries []int) []int 
 	if n != steps || !done {
 		t.Errorf("Steal from %v: %d steps, done is %t, want %d", entries, n, done, steps)
 	}
-	checkResult(t, fmt.Sprintf("Steal from %v", entries), x, code, value)
+	steptest.CheckResult(t, fmt.Sprintf("Steal from %v", entries), x, code, value)
 	return after
 }
 
@@ -654,10 +527,10 @@ func checkPop(t *testing.T, e *machine.Env, q api.Queue, entries []int) []int {
 	machine.Run(e, x, 9)
 	what, last := fmt.Sprintf("Pop of %v", entries), len(entries)-1
 	if last < 0 {
-		checkResult(t, what, x, api.Empty, 0)
+		steptest.CheckResult(t, what, x, api.Empty, 0)
 		return entries
 	}
-	checkResult(t, what, x, api.Got, entries[last])
+	steptest.CheckResult(t, what, x, api.Got, entries[last])
 	return entries[:last]
 }
 
@@ -668,10 +541,10 @@ func checkPush(t *testing.T, e *machine.Env, q api.Queue, entries []int, entry i
 	machine.Run(e, x, 9)
 	what := fmt.Sprintf("Push on %v of %d places", entries, q.Cap)
 	if len(entries) == q.Cap {
-		checkResult(t, what, x, api.Full, 0)
+		steptest.CheckResult(t, what, x, api.Full, 0)
 		return entries
 	}
-	checkResult(t, what, x, api.Fine, 0)
+	steptest.CheckResult(t, what, x, api.Fine, 0)
 	return append(slices.Clone(entries), entry)
 }
 
@@ -964,7 +837,7 @@ func TestExamples(t *testing.T) {
 	if n, done := machine.Run(e, x, 100); n != 4 || !done {
 		t.Errorf("example 1: %d steps, done is %t, want 4", n, done)
 	}
-	checkResult(t, "example 1", x, api.Got, 5)
+	steptest.CheckResult(t, "example 1", x, api.Got, 5)
 
 	x = thief.Steal(q)
 	if n, done := machine.Run(f, x, 3); n != 3 || done {
@@ -972,17 +845,17 @@ func TestExamples(t *testing.T) {
 	}
 	y := thief.Steal(q)
 	machine.Run(f, y, 100)
-	checkResult(t, "example 2, the other thief", y, api.Got, 5)
+	steptest.CheckResult(t, "example 2, the other thief", y, api.Got, 5)
 	if n, done := machine.Run(f, x, 100); n != 1 || !done {
 		t.Errorf("example 2: %d more steps, done is %t, want 1", n, done)
 	}
-	checkResult(t, "example 2", x, api.Abort, 0)
+	steptest.CheckResult(t, "example 2", x, api.Abort, 0)
 
 	x, y, z := owner.Push(q, 7), owner.Pop(q), thief.Steal(q)
 	machine.Run(g, x, 100)
 	machine.Run(g, y, 100)
 	machine.Run(g, z, 100)
-	checkResult(t, "the document's example 2, a third push", x, api.Full, 0)
-	checkResult(t, "the document's example 2, a pop", y, api.Got, 6)
-	checkResult(t, "the document's example 2, a steal", z, api.Got, 5)
+	steptest.CheckResult(t, "the document's example 2, a third push", x, api.Full, 0)
+	steptest.CheckResult(t, "the document's example 2, a pop", y, api.Got, 6)
+	steptest.CheckResult(t, "the document's example 2, a steal", z, api.Got, 5)
 }
