@@ -505,17 +505,9 @@ func (m model) way(cells []uint64, some func(n int) int) (w steptest.Way, lines 
 	return w, lines
 }
 
-// mixed returns a function that returns numbers in a fixed order that looks like none.
-func mixed(x uint64) func(n int) int {
-	return func(n int) int {
-		x = x*6364136223846793005 + 1442695040888963407
-		return int(x>>33) % n
-	}
-}
-
 // P12.1, P12.2 and R1: machines with arguments of all kinds, on cells of all contents, while another machine puts something into cells now and then, do what the model does. Each way through the lines occurs.
 func TestModel(t *testing.T) {
-	some := mixed(9)
+	some := steptest.Mixed(9)
 	words := slices.Concat(contents(), []uint64{1, 2, 3, 4, half + 1, half + 2, top - 1, top - 2})
 	cellNumbers := []int{0, 1, 2, 2, 2, 3, 4, 5, -1, 6, math.MinInt, math.MaxInt}
 	seen := map[string]int{}

@@ -13,62 +13,11 @@ import (
 	"worksteal/thief"
 )
 
-// A series is machines that one worker runs one after another.
-type series []machine.Machine
-
-// step performs a step of the first machine of a series that is not done, and returns what is left. The series itself stays as it is.
-func (s series) step(e *machine.Env) series {
-	x := s[0].Copy()
-	if x.Step(e) {
-		return s[1:]
-	}
-	return append(series{x}, s[1:]...)
-}
-
-// A scene is the series of some workers in one environment.
-type scene struct {
-	e    *machine.Env
-	left []series
-}
-
-// key returns a text on which depends all that can follow: the cells, how many machines are left, and the fields of those that are at work.
-func (s scene) key() string {
-	key := fmt.Sprint(s.e.Memory.Cells())
-	for _, l := range s.left {
-		key += fmt.Sprint(";", len(l))
-		if len(l) > 0 {
-			key += fmt.Sprint(l[0])
-		}
-	}
-	return key
-}
-
-// step returns the scene behind a step of a worker.
-func (s scene) step(i int) scene {
-	c := scene{s.e.Copy(), slices.Clone(s.left)}
-	c.left[i] = s.left[i].step(c.e)
-	return c
-}
-
-// over reports whether all workers are done.
-func (s scene) over() bool {
-	return !slices.ContainsFunc(s.left, func(l series) bool { return len(l) > 0 })
-}
-
-// orders plays all orders of the steps of a scene, and calls look for each scene that there is on the way. What was seen needs not be seen again.
-func orders(s scene, seen map[string]bool, look func(s scene)) {
-	key := s.key()
-	if seen[key] {
-		return
-	}
-	seen[key] = true
-	look(s)
-	for i, l := range s.left {
-		if len(l) > 0 {
-			orders(s.step(i), seen, look)
-		}
-	}
-}
+// A scene is workers on the deques of the tests, and a series what one of them runs.
+type (
+	scene  = steptest.Scene
+	series = []machine.Machine
+)
 
 // The deque of the scenes has its entries in the cells behind the bitmap, which is cell 2, and a bit of its own there.
 var deque = api.Queue{Top: 0, Bottom: 1, Ring: 3, Cap: 4}
@@ -95,15 +44,15 @@ func opened(begin uint64, entries int, left ...series) scene {
 			machine.Run(e, x, 9)
 		}
 	}
-	return scene{e, left}
+	return steptest.Play(e, left...)
 }
 
 // bitOf returns the bit of the deque of a scene.
-func bitOf(s scene) uint64 { return s.e.Memory.Peek(2) / mask(dequeBit) % 2 }
+func bitOf(s scene) uint64 { return s.Env.Memory.Peek(2) / mask(dequeBit) % 2 }
 
 // entriesOf returns how many entries the deque of a scene has when all is done.
 func entriesOf(s scene) uint64 {
-	return s.e.Memory.Peek(deque.Bottom) - s.e.Memory.Peek(deque.Top)
+	return s.Env.Memory.Peek(deque.Bottom) - s.Env.Memory.Peek(deque.Top)
 }
 
 // The consequence of P12.2: from the step on with which a Clear is done, the bit is 1 if entries stay in the deque, whatever a thief, an owner and machines at other bits do. Before that, it is 0 in some orders.
@@ -120,13 +69,13 @@ func TestEntriesStay(t *testing.T) {
 			opened(begin, 2, clearing(), stealing(), pushing()),
 		} {
 			cleared := false
-			orders(s, map[string]bool{}, func(s scene) {
-				if done := len(s.left[0]) == 0; done && bitOf(s) != 1 {
+			steptest.Orders(s, func(s scene) {
+				if done := len(s.Actors[0].Left) == 0; done && bitOf(s) != 1 {
 					t.Errorf("indices from %d on: a Clear is done, and the bit of a deque with entries is 0", begin)
 				}
 				cleared = cleared || bitOf(s) == 0
-				if s.over() && s.e.Memory.Peek(2) != top {
-					t.Errorf("indices from %d on: the bitmap is %#x at the end", begin, s.e.Memory.Peek(2))
+				if s.Over() && s.Env.Memory.Peek(2) != top {
+					t.Errorf("indices from %d on: the bitmap is %#x at the end", begin, s.Env.Memory.Peek(2))
 				}
 			})
 			if !cleared {
@@ -155,11 +104,11 @@ func TestBitAtTheEnd(t *testing.T) {
 	for _, begin := range []uint64{0, half - 1, top - 3} {
 		for i, s := range endings(begin) {
 			ends := map[[2]bool]int{}
-			orders(s, map[string]bool{}, func(s scene) {
-				if s.e.Memory.Peek(2)|mask(dequeBit) != top {
-					t.Errorf("scene %d, indices from %d on: the bitmap is %#x", i, begin, s.e.Memory.Peek(2))
+			steptest.Orders(s, func(s scene) {
+				if s.Env.Memory.Peek(2)|mask(dequeBit) != top {
+					t.Errorf("scene %d, indices from %d on: the bitmap is %#x", i, begin, s.Env.Memory.Peek(2))
 				}
-				if s.over() {
+				if s.Over() {
 					ends[[2]bool{entriesOf(s) > 0, bitOf(s) == 1}]++
 				}
 			})
@@ -232,24 +181,18 @@ func thiefOf(all []level, some func(n int) int) series {
 func TestManyOrders(t *testing.T) {
 	ends := map[[2]bool]int{}
 	for seed := range 300 {
-		some := mixed(uint64(seed))
+		some := steptest.Mixed(uint64(seed))
 		all, cells := levels(0, 31, 63)
-		s := scene{machine.Bare(cells), []series{ownerOf(all, some)}}
+		workers := []series{ownerOf(all, some)}
 		for range 1 + some(3) {
-			s.left = append(s.left, thiefOf(all, some))
+			workers = append(workers, thiefOf(all, some))
 		}
-		for !s.over() {
-			// Some workers go on for a while; others wait for long.
-			i := some(len(s.left))
-			for n := 1 + some(4); n > 0 && len(s.left[i]) > 0; n-- {
-				s.left[i] = s.left[i].step(s.e)
-			}
-		}
+		s := steptest.Order(steptest.Play(machine.Bare(cells), workers...), some)
 		for _, v := range all {
-			entries := s.e.Memory.Peek(v.q.Bottom) - s.e.Memory.Peek(v.q.Top)
-			set := s.e.Memory.Peek(0)/mask(v.bit)%2 == 1
+			entries := s.Env.Memory.Peek(v.q.Bottom) - s.Env.Memory.Peek(v.q.Top)
+			set := s.Env.Memory.Peek(0)/mask(v.bit)%2 == 1
 			if ends[[2]bool{entries > 0, set}]++; entries > 0 && !set {
-				t.Errorf("seed %d: the deque of bit %d has %d entries, but the bitmap is %#x", seed, v.bit, entries, s.e.Memory.Peek(0))
+				t.Errorf("seed %d: the deque of bit %d has %d entries, but the bitmap is %#x", seed, v.bit, entries, s.Env.Memory.Peek(0))
 			}
 		}
 	}
@@ -264,9 +207,9 @@ func TestTwoClears(t *testing.T) {
 	for _, picks := range [][]int{{0, 1}, {0, 0, 1, 1}, {0, 0, 0, 1, 1, 1}, {0, 0, 0, 1, 0, 1}, {1, 0, 0, 0, 0, 1}, {1, 1, 1, 0, 1, 0, 0}} {
 		s := opened(0, 1)
 		xs := []machine.Machine{x.Copy(), y.Copy()}
-		machine.Interleave(s.e, xs, picks)
+		machine.Interleave(s.Env, xs, picks)
 		for _, x := range xs {
-			machine.Run(s.e, x, 9)
+			machine.Run(s.Env, x, 9)
 			steptest.CheckResult(t, fmt.Sprintf("one of two Clears, picks %v", picks), x, api.Got, 0)
 		}
 		if bitOf(s) != 1 {

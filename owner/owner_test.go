@@ -583,14 +583,6 @@ func (m *model) pops(cells []uint64) (next int, s step) {
 	return m.done(api.Got, int(size(v, 0).Int64())), s
 }
 
-// mixed returns a function that returns numbers in a fixed order that looks like none.
-func mixed(x uint64) func(n int) int {
-	return func(n int) int {
-		x = x*6364136223846793005 + 1442695040888963407
-		return int(x>>33) % n
-	}
-}
-
 // words returns contents of cells: small ones, and such around 2^63 and 2^64.
 func words() []uint64 {
 	l := []uint64{1000, 1001}
@@ -602,7 +594,7 @@ func words() []uint64 {
 
 // P9.1, P9.2 and R1: machines with arguments of all kinds, on cells of all contents, while another machine puts something into cells now and then, do what the model does. Each way through the lines occurs.
 func TestModel(t *testing.T) {
-	some := mixed(9)
+	some := steptest.Mixed(9)
 	contents := words()
 	caps := []int{1, 2, 3, 4, 7, 0, -1, math.MinInt, math.MaxInt}
 	rings := []int{2, 2, 2, 2, 3, 0, 5, -1, -3, math.MinInt, math.MaxInt}
@@ -673,7 +665,7 @@ func TestStack(t *testing.T) {
 			e.Memory.Store(q.Top, begin)
 			e.Memory.Store(q.Bottom, begin)
 			var stack []int
-			some := mixed(uint64(capacity))
+			some := steptest.Mixed(uint64(capacity))
 			for i := range 200 {
 				if some(2) == 0 {
 					stack = checkPush(t, e, q, stack, i)

@@ -64,9 +64,10 @@ func (s Step) put(e *machine.Env) {
 	}
 }
 
-// Way is a way of a machine through its lines: the cells at first, the call that makes the machine, what the steps must do, and the result.
+// Way is a way of a machine through its lines: the environment at first (a bare one with the cells if it is nil), the call that makes the machine, what the steps must do, and the result.
 type Way struct {
 	What        string
+	Env         *machine.Env
 	Cells       []uint64
 	Make        func() machine.Machine
 	Steps       []Step
@@ -79,6 +80,18 @@ func Filled(cells []uint64) *machine.Env {
 	for i, v := range cells {
 		e.Memory.Store(i, v)
 	}
+	return used(e)
+}
+
+// Made returns an environment of a valid configuration, behind puts into its cells, with an event and a clock that has ticked.
+func Made(c api.Config, puts ...Put) *machine.Env {
+	e, _ := machine.New(c)
+	Step{Puts: puts}.put(e)
+	return used(e)
+}
+
+// used returns an environment with an event more and a clock that has ticked.
+func used(e *machine.Env) *machine.Env {
 	e.Clock.Tick()
 	e.Emit(api.Event{Kind: api.EvPark, Worker: 3})
 	return e
@@ -146,8 +159,16 @@ func Check(t T, ways ...Way) {
 			t.Errorf("%s: the machine is nil", w.What)
 			continue
 		}
-		w.check(t, w.What, Filled(w.Cells), x, 0)
+		w.check(t, w.What, w.env(), x, 0)
 	}
+}
+
+// env returns an environment of its own for a machine of a way.
+func (w Way) env() *machine.Env {
+	if w.Env != nil {
+		return w.Env.Copy()
+	}
+	return Filled(w.Cells)
 }
 
 // check lets a machine that has performed some of the steps of a way perform the others, and some more when it is done.
@@ -164,7 +185,7 @@ func (w Way) check(t T, what string, e *machine.Env, x machine.Machine, from int
 	// What becomes of the cells is nothing to a machine that is done with them.
 	s := None()
 	for i, v := range e.Memory.Cells() {
-		s = s.After(i, ^v)
+		s.Puts = append(s.Puts, Put{i, ^v})
 	}
 	CheckStep(t, what+", a step behind puts", e, x, s, true)
 	CheckResult(t, what+", done for long", x, w.Code, w.Value)
@@ -192,7 +213,7 @@ func CheckCopies(t T, ways ...Way) {
 
 // Begun returns the machine of a way behind some of its steps, and its environment.
 func (w Way) Begun(steps int) (*machine.Env, machine.Machine) {
-	e, x := Filled(w.Cells), w.Make()
+	e, x := w.env(), w.Make()
 	for _, s := range w.Steps[:steps] {
 		s.put(e)
 		x.Step(e)
@@ -224,4 +245,12 @@ func CheckEqual(t T, what string, e, f *machine.Env, x, y machine.Machine) {
 	}
 	checkBeside(t, what+", the first machine", e, before)
 	checkBeside(t, what+", the second machine", f, before)
+}
+
+// Mixed returns a function that returns numbers from 0 to n - 1 in a fixed order that looks like none.
+func Mixed(x uint64) func(n int) int {
+	return func(n int) int {
+		x = x*6364136223846793005 + 1442695040888963407
+		return int(x>>33) % n
+	}
 }

@@ -184,6 +184,46 @@ func TestCheck(t *testing.T) {
 	}
 }
 
+// The machines of a way act on copies of its environment, which stays as it is.
+func TestWayEnv(t *testing.T) {
+	e := steptest.Made(few(), steptest.Put{Cell: 0, V: 7}, steptest.Put{Cell: 1, V: 8})
+	w := way(mover{})
+	w.Env, w.Cells = e, nil
+	before := e.Copy()
+	var r recorder
+	steptest.Check(&r, w, w)
+	steptest.CheckCopies(&r, w, w)
+	if len(r) != 0 {
+		t.Errorf("faults of a machine without any: %q", r)
+	}
+	if f, _ := w.Begun(2); f == e || f.Memory.Peek(1) != 7 || f.Layout != e.Layout {
+		t.Errorf("the environment behind all steps has the cells %v", f.Memory.Cells())
+	}
+	if !slices.Equal(e.Memory.Cells(), before.Memory.Cells()) || e.Memory.Count() != before.Memory.Count() || len(e.Events) != len(before.Events) {
+		t.Errorf("the cells of the way are %v since, want %v", e.Memory.Cells(), before.Memory.Cells())
+	}
+	w.Env = steptest.Made(few(), steptest.Put{Cell: 0, V: 6}, steptest.Put{Cell: 1, V: 8})
+	if steptest.Check(&r, w); len(r) == 0 {
+		t.Error("another environment is not reported by Check")
+	}
+}
+
+// few returns a configuration with as little as there can be.
+func few() api.Config { return config.Decode(nil) }
+
+// An environment is that of its configuration, behind the puts, with an event and a tick.
+func TestMade(t *testing.T) {
+	c := few()
+	c.Deque = 3
+	e := steptest.Made(c, steptest.Put{Cell: 3, V: 7}, steptest.Put{Cell: 3, V: 8}, steptest.Put{Cell: 0, V: 5})
+	l, _ := layout.New(c)
+	want := make([]uint64, l.Cells())
+	want[0], want[3] = 5, 8
+	if !slices.Equal(e.Memory.Cells(), want) || !config.Equal(e.Config, c) || e.Layout != l || len(e.Records) != c.Tasks || len(e.Events) != 1 || e.Clock.Now() != 1 {
+		t.Errorf("the environment is %v with the cells %v", *e, e.Memory.Cells())
+	}
+}
+
 // No machine is a fault, and the next way is checked all the same.
 func TestCheckNil(t *testing.T) {
 	var r recorder
@@ -291,5 +331,26 @@ func TestCheckEqual(t *testing.T) {
 		if steptest.CheckEqual(&r, "two machines", e, e.Copy(), &x, &y); len(r) == 0 {
 			t.Error("a fault of both machines is not reported by CheckEqual")
 		}
+	}
+}
+
+// Mixed numbers are in their range, all of them occur, and equal seeds have equal numbers.
+func TestMixed(t *testing.T) {
+	some, same, other := steptest.Mixed(3), steptest.Mixed(3), steptest.Mixed(4)
+	seen := map[int]bool{}
+	differ := false
+	for range 100 {
+		v := some(7)
+		if v < 0 || v > 6 {
+			t.Errorf("%d is not from 0 to 6", v)
+		}
+		if w := same(7); w != v {
+			t.Errorf("the number with the same seed is %d, want %d", w, v)
+		}
+		differ = differ || other(7) != v
+		seen[v] = true
+	}
+	if len(seen) != 7 || !differ {
+		t.Errorf("of 7 numbers %d occur; with another seed they differ: %t", len(seen), differ)
 	}
 }

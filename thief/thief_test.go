@@ -403,14 +403,6 @@ func (m *model) takes(cells []uint64) step {
 	return cas(m.q.Top, x, cells[m.q.Top])
 }
 
-// mixed returns a function that returns numbers in a fixed order that looks like none.
-func mixed(x uint64) func(n int) int {
-	return func(n int) int {
-		x = x*6364136223846793005 + 1442695040888963407
-		return int(x>>33) % n
-	}
-}
-
 // words returns contents of cells: small ones, and such around 2^63 and 2^64.
 func words() []uint64 {
 	l := []uint64{1000, 1001}
@@ -422,7 +414,7 @@ func words() []uint64 {
 
 // P10.1 and R1: machines with arguments of all kinds, on cells of all contents, while another machine puts something into cells now and then, do what the model does. Each way through the lines occurs.
 func TestModel(t *testing.T) {
-	some := mixed(9)
+	some := steptest.Mixed(9)
 	contents := words()
 	caps := []int{1, 2, 3, 4, 7, 0, -1, math.MinInt, math.MaxInt}
 	rings := []int{2, 2, 2, 2, 3, 0, 5, -1, -3, math.MinInt, math.MaxInt}
@@ -489,7 +481,7 @@ func TestOneAfterAnother(t *testing.T) {
 			e.Memory.Store(q.Top, begin)
 			e.Memory.Store(q.Bottom, begin)
 			var entries []int
-			some := mixed(uint64(capacity))
+			some := steptest.Mixed(uint64(capacity))
 			for i := range 200 {
 				switch some(4) {
 				case 0:
@@ -795,7 +787,7 @@ func TestAllOrders(t *testing.T) {
 // The consequences of P10.1: many orders of the steps of an owner and of several thieves with many acts.
 func TestManyOrders(t *testing.T) {
 	for seed := range 60 {
-		some := mixed(uint64(seed))
+		some := steptest.Mixed(uint64(seed))
 		thieves := 1 + some(4)
 		acts := make([][]api.Act, thieves+1)
 		for i := range 150 {
