@@ -1,4 +1,4 @@
-// Package parts contains what step machines of several layers embed: Lines is what all of them share, and Deque what those on a deque share. See shared/doc/08-machine.md and shared/doc/09-owner.md under 'Definitions'.
+// Package parts contains what step machines of several layers embed: Lines is what all of them share, Deque what those on a deque share, and Outer what those share that run other machines. See shared/doc/08-machine.md and shared/doc/09-owner.md under 'Definitions'.
 package parts
 
 import (
@@ -58,4 +58,33 @@ func (d *Deque) CellOf(index uint64) int {
 		return -1
 	}
 	return d.Ring + int(index%uint64(d.Cap))
+}
+
+// Outer is the lines of a machine that runs other machines, and the one that the next line runs, which is nil before the first step of this line.
+type Outer struct {
+	Lines
+	inner machine.Machine
+}
+
+// Around returns the lines of a machine that runs others and is at its first one.
+func Around() Outer { return Outer{Lines: Begin()} }
+
+// Run performs a step of the machine that a line runs, and returns its result and true if it is done. The first step of the line begins with it: the cells that it acts on are those of the environment of this step.
+func (o *Outer) Run(e *machine.Env, begin func() machine.Machine) (code, value int, done bool) {
+	if o.inner == nil {
+		o.inner = begin()
+	}
+	if !o.inner.Step(e) {
+		return 0, 0, false
+	}
+	code, value = o.inner.Result()
+	o.inner = nil
+	return code, value, true
+}
+
+// Detach lets the inner machine be a copy of what it was. The copy of an outer machine as a value shares it with the original before that.
+func (o *Outer) Detach() {
+	if o.inner != nil {
+		o.inner = o.inner.Copy()
+	}
 }

@@ -90,3 +90,95 @@ func TestCellOf(t *testing.T) {
 		}
 	}
 }
+
+// A counter adds 1 to cell 0 with each step, and is done with Got and what the cell contains when its steps are over.
+type counter struct {
+	parts.Lines
+	steps int
+}
+
+func (c *counter) Step(e *machine.Env) bool {
+	if c.Line() == 0 {
+		return true
+	}
+	v := e.Memory.Add(0, 1) + 1
+	if c.Line() == c.steps {
+		return c.End(api.Got, int(v))
+	}
+	return c.Next(c.Line() + 1)
+}
+
+func (c *counter) Copy() machine.Machine {
+	d := *c
+	return &d
+}
+
+// An inner is how a line runs a counter, and how often it has begun with it.
+type inner struct{ steps, begun int }
+
+func (i *inner) begin() machine.Machine {
+	i.begun++
+	return &counter{parts.Begin(), i.steps}
+}
+
+// checkRun lets an outer machine perform a step of an inner one, and reports an error if that does not return what it must.
+func checkRun(t *testing.T, what string, o *parts.Outer, e *machine.Env, i *inner, code, value int, done bool) {
+	t.Helper()
+	if c, v, d := o.Run(e, i.begin); c != code || v != value || d != done {
+		t.Errorf("%s: %d, %d, %t, want %d, %d, %t", what, c, v, d, code, value, done)
+	}
+}
+
+// A line of an outer machine begins with an inner machine once, and performs one of its steps with each of its own. What the lines of the outer machine are is its own affair.
+func TestOuter(t *testing.T) {
+	e, o := machine.Bare(1), parts.Around()
+	checkLines(t, "at first", o.Lines, 1, 0, 0)
+	i := &inner{steps: 3}
+	checkRun(t, "step 1", &o, e, i, 0, 0, false)
+	checkRun(t, "step 2", &o, e, i, 0, 0, false)
+	checkRun(t, "step 3", &o, e, i, api.Got, 3, true)
+	if g := e.Memory.Peek(0); g != 3 || i.begun != 1 {
+		t.Errorf("three steps of the line: %d steps of %d inner machines", g, i.begun)
+	}
+	// The next line runs another one, and so does a line that is performed once more.
+	j := &inner{steps: 1}
+	checkRun(t, "a line of one step", &o, e, j, api.Got, 4, true)
+	checkRun(t, "a line of one step, once more", &o, e, j, api.Got, 5, true)
+	if i.begun != 1 || j.begun != 2 {
+		t.Errorf("the lines have begun with %d and %d inner machines, want 1 and 2", i.begun, j.begun)
+	}
+	checkLines(t, "behind the lines", o.Lines, 1, 0, 0)
+}
+
+// Behind Detach an outer machine and the one that it was copied from have inner machines of their own, wherever these are.
+func TestDetach(t *testing.T) {
+	for steps := range 3 {
+		e, o, i := machine.Bare(1), parts.Around(), &inner{steps: 3}
+		for range steps {
+			checkRun(t, "before the copy", &o, e, i, 0, 0, false)
+		}
+		f, c := e.Copy(), o
+		c.Detach()
+		for k := steps + 1; k < 3; k++ {
+			checkRun(t, "the original", &o, e, i, 0, 0, false)
+		}
+		checkRun(t, "the end of the original", &o, e, i, api.Got, 3, true)
+		e.Memory.Store(0, 9)
+		for k := steps + 1; k < 3; k++ {
+			checkRun(t, "the copy", &c, f, i, 0, 0, false)
+		}
+		checkRun(t, "the end of the copy", &c, f, i, api.Got, 3, true)
+		if want := 1 + (3-steps)/3; i.begun != want {
+			t.Errorf("a copy behind %d steps: %d inner machines were begun with, want %d", steps, i.begun, want)
+		}
+	}
+}
+
+// The inner machine is not there before its line begins, and not kept behind it.
+func TestDetachBetweenLines(t *testing.T) {
+	e, o := machine.Bare(1), parts.Around()
+	o.Detach()
+	checkRun(t, "behind a Detach at first", &o, e, &inner{steps: 1}, api.Got, 1, true)
+	o.Detach()
+	checkRun(t, "behind a Detach between two lines", &o, e, &inner{steps: 1}, api.Got, 2, true)
+}
