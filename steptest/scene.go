@@ -71,11 +71,14 @@ func (s Scene) Over() bool {
 	return !slices.ContainsFunc(s.Actors, func(a Actor) bool { return len(a.Left) > 0 })
 }
 
-// key returns a text on which depends all that can follow.
+// key returns a text on which depends all that can follow, and all that has come of the machines so far.
 func (s Scene) key() string {
 	key := ""
 	for _, v := range s.Env.Memory.Cells() {
 		key += digits(int(v))
+	}
+	for _, v := range s.Env.Events {
+		key += digits(v.Kind, v.Worker, v.Task, v.Other, v.Level)
 	}
 	for _, a := range s.Actors {
 		key += digits(len(a.Left)) + a.accesses

@@ -87,6 +87,21 @@ func TestOrdersKeepWhatDiffers(t *testing.T) {
 	}
 }
 
+// Scenes in which the events alone differ are different ones.
+func TestOrdersKeepEvents(t *testing.T) {
+	emits := func(worker int) *mover {
+		return &mover{
+			last:   func(e *machine.Env) { e.Emit(api.Event{Kind: api.EvPark, Worker: worker}) },
+			result: func(*mover) (code, value int) { return 0, 0 },
+		}
+	}
+	events := func(s steptest.Scene) string { return fmt.Sprint(s.Env.Events[1:]) }
+	want := []string{"[{16 1 0 0 0} {16 2 0 0 0}]", "[{16 2 0 0 0} {16 1 0 0 0}]"}
+	if g := ends(steptest.Play(steptest.Filled([]uint64{7}), []machine.Machine{emits(1)}, []machine.Machine{emits(2)}), events); !slices.Equal(g, want) {
+		t.Errorf("the ends have the events %q, want %q", g, want)
+	}
+}
+
 // Order plays an order to its end, and other numbers lead to other orders.
 func TestOrder(t *testing.T) {
 	e := steptest.Filled([]uint64{7, 8})

@@ -22,9 +22,10 @@ type Put struct {
 	V    uint64
 }
 
-// Step is what a step of a machine must do: its access, which is the zero value if there must be none, behind what another machine puts into cells before it.
+// Step is what a step of a machine must do: its access, which is the zero value if there must be none, and the events that it emits, behind what another machine puts into cells before it.
 type Step struct {
 	Access api.Access
+	Events []api.Event
 	Puts   []Put
 }
 
@@ -46,6 +47,9 @@ func Or(cell int, old, v uint64) Step { return access(api.AccessOr, cell, old, v
 // And returns an And, before which the cell contains old, and v behind it.
 func And(cell int, old, v uint64) Step { return access(api.AccessAnd, cell, old, v) }
 
+// Add returns an Add, before which the cell contains old, and v behind it.
+func Add(cell int, old, v uint64) Step { return access(api.AccessAdd, cell, old, v) }
+
 // access returns a step with an access.
 func access(kind, cell int, old, v uint64) Step {
 	return Step{Access: api.Access{Kind: kind, Cell: cell, Old: old, New: v}}
@@ -54,6 +58,12 @@ func access(kind, cell int, old, v uint64) Step {
 // After returns the step behind one more put.
 func (s Step) After(cell int, v uint64) Step {
 	s.Puts = append(slices.Clone(s.Puts), Put{cell, v})
+	return s
+}
+
+// Emits returns the step with one more event.
+func (s Step) Emits(v api.Event) Step {
+	s.Events = append(slices.Clone(s.Events), v)
 	return s
 }
 
@@ -124,6 +134,7 @@ func CheckStep(t T, what string, e *machine.Env, x machine.Machine, s Step, done
 	if g := e.Memory.Cells(); !slices.Equal(g, cells) {
 		t.Errorf("%s: the cells are %v, want %v", what, g, cells)
 	}
+	before.Events = append(before.Events, s.Events...)
 	checkBeside(t, what, e, before)
 }
 
@@ -224,10 +235,11 @@ func (w Way) Begun(steps int) (*machine.Env, machine.Machine) {
 // most is more steps than any machine makes on the few cells of a test, so that one that is never done is a fault and not the end of the test.
 const most = 1000
 
-// CheckEqual lets two machines perform steps in two environments that are equal until the first one is done, and reports a fault if they differ, or if anything but the memories changes.
-func CheckEqual(t T, what string, e, f *machine.Env, x, y machine.Machine) {
+// CheckEqual lets two machines perform steps in two environments that are equal until the first one is done, and reports a fault if they differ, if they do not emit the events that they must, or if anything else but the memories changes.
+func CheckEqual(t T, what string, e, f *machine.Env, x, y machine.Machine, events ...api.Event) {
 	t.Helper()
 	before := e.Copy()
+	before.Events = append(before.Events, events...)
 	for i := 1; ; i++ {
 		done, d := x.Step(e), y.Step(f)
 		if d != done || i == most || e.Memory.Last() != f.Memory.Last() || e.Memory.Count() != f.Memory.Count() {

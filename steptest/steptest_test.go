@@ -236,7 +236,7 @@ func TestCheckNil(t *testing.T) {
 
 // Steps are those of the access with their name, behind their puts.
 func TestSteps(t *testing.T) {
-	steps := []steptest.Step{steptest.None(), steptest.Load(1, 12), steptest.Store(1, 12, 5), steptest.CAS(1, 12, 5), steptest.Or(1, 12, 13), steptest.And(1, 12, 4)}
+	steps := []steptest.Step{steptest.None(), steptest.Load(1, 12), steptest.Store(1, 12, 5), steptest.CAS(1, 12, 5), steptest.Or(1, 12, 13), steptest.And(1, 12, 4), steptest.Add(1, 12, 21)}
 	for i, play := range []func(e *machine.Env){
 		func(e *machine.Env) {},
 		func(e *machine.Env) { e.Memory.Load(1) },
@@ -244,6 +244,7 @@ func TestSteps(t *testing.T) {
 		func(e *machine.Env) { e.Memory.CAS(1, 12, 5) },
 		func(e *machine.Env) { e.Memory.Or(1, 9) },
 		func(e *machine.Env) { e.Memory.And(1, 6) },
+		func(e *machine.Env) { e.Memory.Add(1, 9) },
 	} {
 		for j, s := range steps {
 			var r recorder
@@ -265,6 +266,49 @@ func TestAfter(t *testing.T) {
 			t.Errorf("%v is changed by further puts %v and %v", s, a, b)
 		}
 		s = a
+	}
+}
+
+// A step with further events leaves the step that it was made of as it is, and whatever else is made of that one.
+func TestEmits(t *testing.T) {
+	s := steptest.Load(0, 3).After(0, 3)
+	for i := range 9 {
+		a, b := s.Emits(api.Event{Task: 2}), s.Emits(api.Event{Task: 3})
+		if len(s.Events) != i || a.Events[i].Task != 2 || b.Events[i].Task != 3 || len(a.Puts) != 1 {
+			t.Errorf("%v is changed by further events %v and %v", s, a, b)
+		}
+		s = a
+	}
+}
+
+// A step must emit its events, in their order, and no others.
+func TestEvents(t *testing.T) {
+	a, b := api.Event{Kind: api.EvStart, Worker: 1, Task: 2}, api.Event{Kind: api.EvFinish, Worker: 1, Task: 2}
+	lists := [][]api.Event{nil, {a}, {b}, {a, a}, {a, b}, {b, a}, {{Kind: api.EvStart, Worker: 1, Task: 3}}, {{}}}
+	for i, emitted := range lists {
+		for j, wanted := range lists {
+			var r recorder
+			s := steptest.Load(0, 7)
+			for _, v := range wanted {
+				s = s.Emits(v)
+			}
+			emit := func(e *machine.Env) {
+				for _, v := range emitted {
+					e.Emit(v)
+				}
+			}
+			steptest.CheckStep(&r, "a step", steptest.Filled([]uint64{7}), &mover{beside: emit}, s, false)
+			if (len(r) == 0) != (i == j) {
+				t.Errorf("events %v as %v: the faults are %q", emitted, wanted, r)
+			}
+			r = nil
+			e := steptest.Filled([]uint64{7, 8})
+			last := func(e *machine.Env) { emit(e); e.Memory.Store(1, 7) }
+			steptest.CheckEqual(&r, "two machines", e, e.Copy(), &mover{last: last}, &mover{last: last}, wanted...)
+			if (len(r) == 0) != (i == j) {
+				t.Errorf("events %v of two machines as %v: the faults are %q", emitted, wanted, r)
+			}
+		}
 	}
 }
 
