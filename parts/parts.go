@@ -1,4 +1,4 @@
-// Package parts contains what step machines of several layers embed: Lines is what all of them share, Deque what those on a deque share, and Outer what those share that run other machines. See shared/doc/08-machine.md and shared/doc/09-owner.md under 'Definitions'.
+// Package parts contains what step machines of several layers embed: Lines is what all of them share, Deque what those on a deque share, and Outer what those share that run other machines. IsTask is what those ask that act on a task. See shared/doc/08-machine.md, shared/doc/09-owner.md and shared/doc/18-table.md under 'Definitions'.
 package parts
 
 import (
@@ -88,3 +88,6 @@ func (o *Outer) Detach() {
 		o.inner = o.inner.Copy()
 	}
 }
+
+// IsTask reports whether a number is a task.
+func IsTask(e *machine.Env, n int) bool { return 0 <= n && n < e.Config.Tasks }

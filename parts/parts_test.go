@@ -182,3 +182,21 @@ func TestDetachBetweenLines(t *testing.T) {
 	o.Detach()
 	checkRun(t, "behind a Detach between two lines", &o, e, &inner{steps: 1}, api.Got, 2, true)
 }
+
+// The tasks are the numbers from 0 on, as many as the configuration says.
+func TestIsTask(t *testing.T) {
+	for _, tasks := range []int{0, 1, 2, 256} {
+		e := machine.Bare(0)
+		e.Config.Tasks = tasks
+		for n := range tasks {
+			if !parts.IsTask(e, n) {
+				t.Errorf("of %d tasks %d is none", tasks, n)
+			}
+		}
+		for _, n := range []int{-1, -2, -tasks - 1, tasks, tasks + 1, 257, 1 << 32, 1<<62 + 1, -1 << 32, math.MaxInt, math.MaxInt - 1, math.MinInt, math.MinInt + 1} {
+			if parts.IsTask(e, n) {
+				t.Errorf("of %d tasks %d is one", tasks, n)
+			}
+		}
+	}
+}

@@ -11,7 +11,7 @@ import (
 // Result is the code and the value of a machine that is done.
 type Result struct{ Code, Value int }
 
-// Actor runs machines one after another: those that are left, the first of which may be at work, and the results of those that are done. It keeps the accesses of the one at work, on which alone depends what this machine does next.
+// Actor runs machines one after another: those that are left, the first of which may be at work, and the results of those that are done. It keeps the accesses of the one at work with their times, on which alone depends what this machine does next.
 type Actor struct {
 	Left     []machine.Machine
 	Results  []Result
@@ -52,7 +52,7 @@ func (a Actor) step(e *machine.Env) Actor {
 	if e.Memory.Count() > count {
 		last = e.Memory.Last()
 	}
-	a.accesses += digits(last.Kind, last.Cell, int(last.Old), int(last.New))
+	a.accesses += digits(last.Kind, last.Cell, int(last.Old), int(last.New), e.Clock.Now())
 	a.Left = append([]machine.Machine{x}, a.Left[1:]...)
 	return a
 }
@@ -73,9 +73,12 @@ func (s Scene) Over() bool {
 
 // key returns a text on which depends all that can follow, and all that has come of the machines so far.
 func (s Scene) key() string {
-	key := ""
+	key := digits(s.Env.Clock.Now())
 	for _, v := range s.Env.Memory.Cells() {
 		key += digits(int(v))
+	}
+	for _, r := range s.Env.Records {
+		key += digits(r.Prog, r.Parent, r.PC, r.Left, r.Waiting) + digits(r.Kids...) + strconv.FormatBool(r.Started)
 	}
 	for _, v := range s.Env.Events {
 		key += digits(v.Kind, v.Worker, v.Task, v.Other, v.Level)

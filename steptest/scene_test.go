@@ -102,6 +102,80 @@ func TestOrdersKeepEvents(t *testing.T) {
 	}
 }
 
+// without returns a mover whose second line does something without an access, and whose result tells nothing.
+func without(last func(e *machine.Env)) *mover {
+	return &mover{last: last, result: func(*mover) (code, value int) { return 0, 0 }}
+}
+
+// Scenes in which a record alone differs are different ones, whatever differs of it.
+func TestOrdersKeepRecords(t *testing.T) {
+	a, b := api.Record{PC: 1, Kids: []int{5}, Started: true}, api.Record{PC: 1, Kids: []int{5}, Started: true}
+	for i, change := range []func(r *api.Record){
+		func(r *api.Record) {},
+		func(r *api.Record) { r.Prog++ },
+		func(r *api.Record) { r.Parent++ },
+		func(r *api.Record) { r.PC++ },
+		func(r *api.Record) { r.Left++ },
+		func(r *api.Record) { r.Waiting++ },
+		func(r *api.Record) { r.Kids = nil },
+		func(r *api.Record) { r.Kids = []int{6} },
+		func(r *api.Record) { r.Started = false },
+	} {
+		b := b
+		change(&b)
+		e := steptest.Filled([]uint64{7})
+		e.Records = make([]api.Record, 2)
+		writes := func(v api.Record) *mover { return without(func(e *machine.Env) { e.Records[1] = v }) }
+		records := func(s steptest.Scene) string { return fmt.Sprint(s.Env.Records) }
+		if g := ends(steptest.Play(e, []machine.Machine{writes(a)}, []machine.Machine{writes(b)}), records); (len(g) == 2) != (i > 0) {
+			t.Errorf("change %d of a record: the ends have the records %q", i, g)
+		}
+	}
+}
+
+// Scenes in which the time alone differs are different ones, and so are those in which a machine has made its access at another time.
+func TestOrdersKeepTimes(t *testing.T) {
+	ticks := func(n int) *mover {
+		return without(func(e *machine.Env) {
+			for range n * (3 - e.Clock.Now()) {
+				e.Clock.Tick()
+			}
+		})
+	}
+	times := func(s steptest.Scene) string { return fmt.Sprint(s.Env.Clock.Now()) }
+	if g := ends(steptest.Play(steptest.Filled([]uint64{7}), []machine.Machine{ticks(1)}, []machine.Machine{ticks(2)}), times); !slices.Equal(g, []string{"3", "5"}) {
+		t.Errorf("the ends have the times %q", g)
+	}
+	results := func(s steptest.Scene) string { return fmt.Sprint(s.Actors[0].Results) }
+	if g := ends(steptest.Play(steptest.Filled([]uint64{7}), []machine.Machine{&watch{}}, []machine.Machine{ticks(1)}), results); !slices.Equal(g, []string{"[{1 1}]", "[{1 3}]"}) {
+		t.Errorf("the watch has the results %q", g)
+	}
+}
+
+// A watch loads cell 0, and is done with Got and the time of that with its second step, which makes no access.
+type watch struct{ steps, time int }
+
+func (w *watch) Step(e *machine.Env) bool {
+	if w.steps == 0 {
+		e.Memory.Load(0)
+		w.time = e.Clock.Now()
+	}
+	w.steps++
+	return w.steps > 1
+}
+
+func (w *watch) Result() (code, value int) {
+	if w.steps < 2 {
+		return 0, 0
+	}
+	return api.Got, w.time
+}
+
+func (w *watch) Copy() machine.Machine {
+	c := *w
+	return &c
+}
+
 // Order plays an order to its end, and other numbers lead to other orders.
 func TestOrder(t *testing.T) {
 	e := steptest.Filled([]uint64{7, 8})

@@ -22,11 +22,19 @@ type Put struct {
 	V    uint64
 }
 
-// Step is what a step of a machine must do: its access, which is the zero value if there must be none, and the events that it emits, behind what another machine puts into cells before it.
+// Write is what a step of a machine makes of the record of a task.
+type Write struct {
+	Task   int
+	Record api.Record
+}
+
+// Step is what a step of a machine must do: its access, which is the zero value if there must be none, the events that it emits, and the records that it writes, behind what another machine puts into cells and the ticks of the clock before it.
 type Step struct {
 	Access api.Access
 	Events []api.Event
+	Writes []Write
 	Puts   []Put
+	Ticks  int
 }
 
 // None returns a step without an access.
@@ -67,10 +75,33 @@ func (s Step) Emits(v api.Event) Step {
 	return s
 }
 
-// put performs the puts of a step.
-func (s Step) put(e *machine.Env) {
+// Sets returns the step with one more record that it writes.
+func (s Step) Sets(task int, r api.Record) Step {
+	s.Writes = append(slices.Clone(s.Writes), Write{task, r})
+	return s
+}
+
+// Later returns the step behind some more ticks.
+func (s Step) Later(ticks int) Step {
+	s.Ticks += ticks
+	return s
+}
+
+// prepare performs the puts and the ticks of a step.
+func (s Step) prepare(e *machine.Env) {
 	for _, p := range s.Puts {
 		e.Memory.Store(p.Cell, p.V)
+	}
+	for range s.Ticks {
+		e.Clock.Tick()
+	}
+}
+
+// beside lets an environment be, but for its memory, as it is behind the step.
+func (s Step) beside(e *machine.Env) {
+	e.Events = append(e.Events, s.Events...)
+	for _, w := range s.Writes {
+		e.Records[w.Task] = w.Record
 	}
 }
 
@@ -96,7 +127,7 @@ func Filled(cells []uint64) *machine.Env {
 // Made returns an environment of a valid configuration, behind puts into its cells, with an event and a clock that has ticked.
 func Made(c api.Config, puts ...Put) *machine.Env {
 	e, _ := machine.New(c)
-	Step{Puts: puts}.put(e)
+	Step{Puts: puts}.prepare(e)
 	return used(e)
 }
 
@@ -118,7 +149,7 @@ func CheckResult(t T, what string, x machine.Machine, code, value int) {
 // CheckStep lets a machine perform a step, and reports a fault if it does not do what it must, or anything else.
 func CheckStep(t T, what string, e *machine.Env, x machine.Machine, s Step, done bool) {
 	t.Helper()
-	s.put(e)
+	s.prepare(e)
 	before := e.Copy()
 	cells, count, last := before.Memory.Cells(), before.Memory.Count(), before.Memory.Last()
 	if s.Access.Kind != api.AccessNone {
@@ -134,7 +165,7 @@ func CheckStep(t T, what string, e *machine.Env, x machine.Machine, s Step, done
 	if g := e.Memory.Cells(); !slices.Equal(g, cells) {
 		t.Errorf("%s: the cells are %v, want %v", what, g, cells)
 	}
-	before.Events = append(before.Events, s.Events...)
+	s.beside(before)
 	checkBeside(t, what, e, before)
 }
 
@@ -193,8 +224,8 @@ func (w Way) check(t T, what string, e *machine.Env, x machine.Machine, from int
 		CheckResult(t, what+", done", x, w.Code, w.Value)
 		CheckStep(t, what+", a step when it is done", e, x, None(), true)
 	}
-	// What becomes of the cells is nothing to a machine that is done with them.
-	s := None()
+	// What becomes of the cells and of the time is nothing to a machine that is done with them.
+	s := None().Later(1)
 	for i, v := range e.Memory.Cells() {
 		s.Puts = append(s.Puts, Put{i, ^v})
 	}
@@ -226,7 +257,7 @@ func CheckCopies(t T, ways ...Way) {
 func (w Way) Begun(steps int) (*machine.Env, machine.Machine) {
 	e, x := w.env(), w.Make()
 	for _, s := range w.Steps[:steps] {
-		s.put(e)
+		s.prepare(e)
 		x.Step(e)
 	}
 	return e, x
@@ -238,8 +269,14 @@ const most = 1000
 // CheckEqual lets two machines perform steps in two environments that are equal until the first one is done, and reports a fault if they differ, if they do not emit the events that they must, or if anything else but the memories changes.
 func CheckEqual(t T, what string, e, f *machine.Env, x, y machine.Machine, events ...api.Event) {
 	t.Helper()
-	before := e.Copy()
-	before.Events = append(before.Events, events...)
+	CheckEqualSteps(t, what, e, f, x, y, Step{Events: events})
+}
+
+// CheckEqualSteps is CheckEqual for machines that may write records, too: all their steps together must do what one step must, but for its access.
+func CheckEqualSteps(t T, what string, e, f *machine.Env, x, y machine.Machine, all Step) {
+	t.Helper()
+	want := e.Copy()
+	all.beside(want)
 	for i := 1; ; i++ {
 		done, d := x.Step(e), y.Step(f)
 		if d != done || i == most || e.Memory.Last() != f.Memory.Last() || e.Memory.Count() != f.Memory.Count() {
@@ -255,8 +292,8 @@ func CheckEqual(t T, what string, e, f *machine.Env, x, y machine.Machine, event
 	if !slices.Equal(e.Memory.Cells(), f.Memory.Cells()) {
 		t.Errorf("%s: the cells are %v and %v", what, e.Memory.Cells(), f.Memory.Cells())
 	}
-	checkBeside(t, what+", the first machine", e, before)
-	checkBeside(t, what+", the second machine", f, before)
+	checkBeside(t, what+", the first machine", e, want)
+	checkBeside(t, what+", the second machine", f, want)
 }
 
 // Mixed returns a function that returns numbers from 0 to n - 1 in a fixed order that looks like none.

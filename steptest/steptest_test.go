@@ -281,6 +281,90 @@ func TestEmits(t *testing.T) {
 	}
 }
 
+// A step with further records leaves the step that it was made of as it is, and whatever else is made of that one.
+func TestSets(t *testing.T) {
+	s := steptest.Load(0, 3).After(0, 3)
+	for i := range 9 {
+		a, b := s.Sets(i, api.Record{PC: 2}), s.Sets(i, api.Record{PC: 3})
+		if len(s.Writes) != i || a.Writes[i].Record.PC != 2 || b.Writes[i].Record.PC != 3 || a.Writes[i].Task != i || len(a.Puts) != 1 {
+			t.Errorf("%v is changed by further records %v and %v", s, a, b)
+		}
+		s = a
+	}
+}
+
+// The ticks before a step add up, and the step itself sees them; a step that is not told of a tick has none.
+func TestLater(t *testing.T) {
+	now := func(e *machine.Env) { e.Memory.Store(0, uint64(e.Clock.Now())) }
+	var r recorder
+	e, s := steptest.Filled([]uint64{7}), steptest.Store(0, 7, 6)
+	if steptest.CheckStep(&r, "a step", e, &mover{steps: 1, last: now}, s.Later(2).After(0, 7).Later(3), true); len(r) != 0 || e.Clock.Now() != 6 {
+		t.Errorf("a step behind five more ticks: the time is %d, and the faults are %q", e.Clock.Now(), r)
+	}
+	if s.Ticks != 0 {
+		t.Errorf("a step has %d ticks since", s.Ticks)
+	}
+	if steptest.CheckStep(&r, "a step", steptest.Filled([]uint64{7}), &mover{steps: 1, last: now}, s, true); len(r) == 0 {
+		t.Error("a step without ticks that stores another time is not reported")
+	}
+}
+
+// The ticks of a way are those of its copies as well, and a machine that is done must not mind a tick.
+func TestLaterWay(t *testing.T) {
+	stamp := func(e *machine.Env) { e.Memory.Store(1, uint64(e.Clock.Now())) }
+	w := way(mover{last: stamp})
+	w.Steps = []steptest.Step{steptest.Load(0, 7).Later(1), steptest.Store(1, 8, 5).Later(3)}
+	var r recorder
+	steptest.Check(&r, w)
+	steptest.CheckCopies(&r, w)
+	if len(r) != 0 {
+		t.Errorf("faults of a machine without any: %q", r)
+	}
+	w = way(mover{})
+	w.Make = func() machine.Machine {
+		return &mover{idle: func(e *machine.Env) {
+			if e.Clock.Now() > 1 {
+				e.Memory.Store(0, 0)
+			}
+		}}
+	}
+	if steptest.Check(&r, w); len(r) == 0 {
+		t.Error("a machine that is done and minds a tick is not reported")
+	}
+}
+
+// A step must write its records, and no others.
+func TestWrites(t *testing.T) {
+	a, b := api.Record{PC: 1, Kids: []int{2}}, api.Record{Started: true}
+	lists := [][]steptest.Write{nil, {{0, a}}, {{1, a}}, {{0, b}}, {{0, a}, {1, b}}, {{0, b}, {1, a}}, {{0, a}, {1, a}}}
+	for i, written := range lists {
+		for j, wanted := range lists {
+			s := steptest.Load(0, 7)
+			for _, w := range wanted {
+				s = s.Sets(w.Task, w.Record)
+			}
+			write := func(e *machine.Env) {
+				for _, w := range written {
+					e.Records[w.Task] = w.Record
+				}
+			}
+			e := steptest.Filled([]uint64{7, 8})
+			e.Records = make([]api.Record, 2)
+			var r recorder
+			steptest.CheckStep(&r, "a step", e.Copy(), &mover{beside: write}, s, false)
+			if (len(r) == 0) != (i == j) {
+				t.Errorf("records %v as %v: the faults are %q", written, wanted, r)
+			}
+			r = nil
+			last := func(e *machine.Env) { write(e); e.Memory.Store(1, 7) }
+			steptest.CheckEqualSteps(&r, "two machines", e, e.Copy(), &mover{last: last}, &mover{last: last}, s)
+			if (len(r) == 0) != (i == j) {
+				t.Errorf("records %v of two machines as %v: the faults are %q", written, wanted, r)
+			}
+		}
+	}
+}
+
 // A step must emit its events, in their order, and no others.
 func TestEvents(t *testing.T) {
 	a, b := api.Event{Kind: api.EvStart, Worker: 1, Task: 2}, api.Event{Kind: api.EvFinish, Worker: 1, Task: 2}
