@@ -35,23 +35,25 @@ var (
 	and   = steptest.And
 )
 
+// Short names for configurations, their cells, and what they contain.
+var (
+	bitsOf  = steptest.BitsOf
+	dequeOf = steptest.DequeOf
+	cellOf  = steptest.CellOf
+	has     = steptest.Has
+	is      = steptest.Is
+	looks   = steptest.Looks
+	pushes  = steptest.Pushes
+)
+
 // sized returns a configuration with some workers and levels, whose deques have some places.
 func sized(workers, levels, places int) api.Config {
-	return api.Config{Workers: workers, Levels: levels, Classes: 1, Tasks: 1, Deque: places, Heap: 1, Batch: 1, Patience: 1, Progs: [][]api.Instr{{}}}
+	return steptest.Sized(workers, levels, 1, places)
 }
 
 // sizes returns configurations with few and with many workers, levels and places, up to the greatest ones.
 func sizes() []api.Config {
 	return []api.Config{sized(1, 1, 1), sized(1, 2, 3), sized(2, 3, 2), sized(3, 1, 4), sized(1, 64, 2), sized(16, 1, 64), sized(16, 64, 1)}
-}
-
-// bitsOf returns the cell of the bitmap of a worker, as chapter 6 counts the cells: behind four cells, the injector, the sleepers and the epochs.
-func bitsOf(c api.Config, worker int) int { return 4 + c.Heap + c.Classes + c.Workers + worker }
-
-// dequeOf returns the deque of a worker and a level, as chapter 6 counts the cells: behind the bitmaps.
-func dequeOf(c api.Config, worker, level int) api.Queue {
-	first := bitsOf(c, c.Workers) + (worker*c.Levels+level)*(2+c.Deque)
-	return api.Queue{Top: first, Bottom: first + 1, Ring: first + 2, Cap: c.Deque}
 }
 
 // Most ways are those of worker 1 of two workers with three levels. Its bitmap is bits, and its deques, of two places each, are low, middle and high.
@@ -61,34 +63,11 @@ var (
 	low, middle, high = dequeOf(home, 1, 0), dequeOf(home, 1, 1), dequeOf(home, 1, 2)
 )
 
-// cellOf returns the cell of an index.
-func cellOf(q api.Queue, index uint64) int { return q.Ring + int(index%uint64(q.Cap)) }
-
-// has returns the puts that let a deque have entries, whose indices begin with a number.
-func has(q api.Queue, begin uint64, entries ...uint64) []put {
-	l := []put{{Cell: q.Top, V: begin}, {Cell: q.Bottom, V: begin + uint64(len(entries))}}
-	for i, v := range entries {
-		l = append(l, put{Cell: cellOf(q, begin+uint64(i)), V: v})
-	}
-	return l
-}
-
-// is returns the put of a word into a cell.
-func is(cell int, v uint64) []put { return []put{{Cell: cell, V: v}} }
-
 // join returns steps, or puts, as one list.
 func join[T any](l ...[]T) []T { return slices.Concat(l...) }
 
 // one returns a step as a list.
 func one(s step) []step { return []step{s} }
-
-// looks returns the steps of a Push or Pop that finds a deque full or empty.
-func looks(q api.Queue, b, t uint64) []step { return []step{load(q.Bottom, b), load(q.Top, t)} }
-
-// pushes returns the steps of a Push into a place that contains old.
-func pushes(q api.Queue, b, t, old, v uint64) []step {
-	return append(looks(q, b, t), store(cellOf(q, b), old, v), store(q.Bottom, b, b+1))
-}
 
 // pops returns the steps of a Pop of one of several entries.
 func pops(q api.Queue, b, t, v uint64) []step {

@@ -69,6 +69,9 @@ type Outer struct {
 // Around returns the lines of a machine that runs others and is at its first one.
 func Around() Outer { return Outer{Lines: Begin()} }
 
+// Begins reports whether the next step of a line that runs a machine is the first one of this line.
+func (o *Outer) Begins() bool { return o.inner == nil }
+
 // Run performs a step of the machine that a line runs, and returns its result and true if it is done. The first step of the line begins with it: the cells that it acts on are those of the environment of this step.
 func (o *Outer) Run(e *machine.Env, begin func() machine.Machine) (code, value int, done bool) {
 	if o.inner == nil {

@@ -174,6 +174,22 @@ func TestDetach(t *testing.T) {
 	}
 }
 
+// A line begins with its first step, and again with the first one behind its last one; a copy is where the original was.
+func TestBegins(t *testing.T) {
+	e, o, i := machine.Bare(1), parts.Around(), &inner{steps: 3}
+	for step := range 9 {
+		c := o
+		c.Detach()
+		if want := step%3 == 0; o.Begins() != want || c.Begins() != want {
+			t.Errorf("behind %d steps: the line begins: %t, and that of a copy: %t, want %t", step, o.Begins(), c.Begins(), want)
+		}
+		o.Run(e, i.begin)
+		if want := step%3 == 0; c.Begins() != want {
+			t.Errorf("behind %d steps and one more of the original: the line of a copy begins: %t, want %t", step, c.Begins(), want)
+		}
+	}
+}
+
 // The inner machine is not there before its line begins, and not kept behind it.
 func TestDetachBetweenLines(t *testing.T) {
 	e, o := machine.Bare(1), parts.Around()

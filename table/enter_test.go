@@ -3,7 +3,6 @@ package table_test
 import (
 	"fmt"
 	"math"
-	"slices"
 	"testing"
 
 	"worksteal/api"
@@ -31,23 +30,8 @@ func enterIn(c api.Config, what string, puts []put, worker, task, code, value in
 
 // opens returns the first three steps of an Enter of a task, whose Level cell contains a word, and whose other cells contain 0, at the time 1.
 func opens(r row, level uint64) []step {
-	return []step{store(r.since, 0, 1), store(r.state, 0, api.Ready), load(r.level, level)}
+	return []step{store(r.Since, 0, 1), store(r.State, 0, api.Ready), load(r.Level, level)}
 }
-
-// cellOf returns the cell of an index.
-func cellOf(q api.Queue, index uint64) int { return q.Ring + int(index%uint64(q.Cap)) }
-
-// has returns the puts that let a deque have entries, whose indices begin with a number.
-func has(q api.Queue, begin uint64, entries ...uint64) []put {
-	l := []put{{Cell: q.Top, V: begin}, {Cell: q.Bottom, V: begin + uint64(len(entries))}}
-	for i, v := range entries {
-		l = append(l, put{Cell: cellOf(q, begin+uint64(i)), V: v})
-	}
-	return l
-}
-
-// looks returns the steps of a Push that finds a deque full.
-func looks(q api.Queue, b, t uint64) []step { return []step{load(q.Bottom, b), load(q.Top, t)} }
 
 // pushes returns the steps of a Push of task 2 by worker 1 into a place that contains 0, with the bitmap before and behind it.
 func pushes(q api.Queue, b, t, old, v uint64) []step {
@@ -56,16 +40,16 @@ func pushes(q api.Queue, b, t, old, v uint64) []step {
 
 // pushesIn returns the steps of a Push of a task into a place that contains 0, with the one that sets its bit.
 func pushesIn(q api.Queue, b, t, task uint64, set step) []step {
-	return append(looks(q, b, t), store(cellOf(q, b), 0, task), store(q.Bottom, b, b+1), set)
+	return append(steptest.Pushes(q, b, t, 0, task), set)
 }
 
 // wants returns the put of a word into the Level cell of task 2.
-func wants(level uint64) []put { return is(own.level, level) }
+func wants(level uint64) []put { return is(own.Level, level) }
 
 // P18.4: each level, what is in its deque and in the bitmap, and what the cells of the task contain before.
 func enterLines() []steptest.Way {
 	full := []put{{Cell: middle.Top, V: 4}, {Cell: middle.Bottom, V: 6}}
-	over := []step{store(own.since, 8, 1), store(own.state, 4, api.Ready), load(own.level, 1)}
+	over := []step{store(own.Since, 8, 1), store(own.State, 4, api.Ready), load(own.Level, 1)}
 	return []steptest.Way{
 		enter("the least level", nil, api.Fine, 0, opens(own, 0), pushes(low, 0, 0, 0, 1)),
 		enter("a level between others", wants(1), api.Fine, 1, opens(own, 1), pushes(middle, 0, 0, 0, 2)),
@@ -76,7 +60,7 @@ func enterLines() []steptest.Way {
 		enter("all bits", join(wants(1), is(bits, top)), api.Fine, 1, opens(own, 1), pushes(middle, 0, 0, top, top)),
 		enter("full deques of other levels", join(wants(1), has(low, 0, 1, 3), has(high, 0, 1, 3)), api.Fine, 1, opens(own, 1), pushes(middle, 0, 0, 0, 2)),
 		enter("other tasks", join(beside(home, 2), wants(1)), api.Fine, 1, opens(own, 1), pushes(middle, 0, 0, 0, 2)),
-		enter("a task that was there before", join(filled(own, 4), wants(1)), api.Fine, 1, over, pushes(middle, 0, 0, 0, 2)),
+		enter("a task that was there before", join(own.Filled(4), wants(1)), api.Fine, 1, over, pushes(middle, 0, 0, 0, 2)),
 		enter("a full deque", join(wants(1), full, is(bits, 2)), api.Full, 1, opens(own, 1), looks(middle, 6, 4)),
 		enter("a full deque whose bit is 0", join(wants(1), full), api.Full, 1, opens(own, 1), looks(middle, 6, 4)),
 		enter("more than full", join(wants(1), is(middle.Bottom, 9)), api.Full, 1, opens(own, 1), looks(middle, 9, 0)),
@@ -89,8 +73,8 @@ func enterLines() []steptest.Way {
 func enterStates() []steptest.Way {
 	var l []steptest.Way
 	for _, state := range states() {
-		first := []step{store(own.since, 0, 1), store(own.state, state, api.Ready), load(own.level, 1)}
-		l = append(l, enter(fmt.Sprintf("the state %d", state), join(wants(1), is(own.state, state)), api.Fine, 1, first, pushes(middle, 0, 0, 0, 2)))
+		first := []step{store(own.Since, 0, 1), store(own.State, state, api.Ready), load(own.Level, 1)}
+		l = append(l, enter(fmt.Sprintf("the state %d", state), join(wants(1), is(own.State, state)), api.Fine, 1, first, pushes(middle, 0, 0, 0, 2)))
 	}
 	return l
 }
@@ -123,7 +107,7 @@ func enterTimes() []steptest.Way {
 		var l []step
 		for i, s := range steps {
 			if i == 0 {
-				s = store(own.since, 0, uint64(1+ticks[0]))
+				s = store(own.Since, 0, uint64(1+ticks[0]))
 			}
 			l = append(l, s.Later(ticks[i]))
 		}
@@ -145,19 +129,19 @@ func enterOthers() []steptest.Way {
 	push := pushes(middle, 0, 0, 0, 2)
 	full := []put{{Cell: middle.Top, V: 4}, {Cell: middle.Bottom, V: 6}}
 	return []steptest.Way{
-		enter("all cells change before line 1", nil, api.Fine, 1, []step{store(own.since, 7, 1).After(own.since, 7).After(own.state, 8).After(own.level, 1), store(own.state, 8, api.Ready), first[2]}, push),
-		enter("the time changes before line 2", wants(1), api.Fine, 1, []step{first[0], first[1].After(own.since, 9), first[2]}, push),
-		enter("the task is ready before line 2", wants(1), api.Fine, 1, []step{first[0], store(own.state, api.Ready, api.Ready).After(own.state, api.Ready), first[2]}, push),
-		enter("another one claims the task before line 3", wants(1), api.Fine, 1, []step{first[0], first[1], first[2].After(own.state, api.Running)}, push),
-		enter("the level rises before line 1", nil, api.Fine, 1, []step{first[0].After(own.level, 1), first[1], first[2]}, push),
-		enter("the level rises before line 2", nil, api.Fine, 1, []step{first[0], first[1].After(own.level, 1), first[2]}, push),
-		enter("the level rises before line 3", nil, api.Fine, 1, []step{first[0], first[1], first[2].After(own.level, 1)}, push),
-		enter("the level rises before line 4", wants(1), api.Fine, 1, first, []step{push[0].After(own.level, 2)}, push[1:]),
-		enter("the level rises in the middle of line 4", wants(1), api.Fine, 1, first, push[:2], []step{push[2].After(own.level, 2)}, push[3:]),
-		enter("the level rises before the last step", wants(1), api.Fine, 1, first, push[:4], []step{push[4].After(own.level, 2)}),
-		enter("the level rises while the deque is full", join(wants(1), full), api.Full, 1, first, []step{load(middle.Bottom, 6).After(own.level, 2), load(middle.Top, 4)}),
-		enter("the level becomes none before line 4", wants(1), api.Fine, 1, first, []step{push[0].After(own.level, top)}, push[1:]),
-		enter("another one claims the task in the middle of line 4", wants(1), api.Fine, 1, first, push[:1], []step{push[1].After(own.state, api.Running)}, push[2:]),
+		enter("all cells change before line 1", nil, api.Fine, 1, []step{store(own.Since, 7, 1).After(own.Since, 7).After(own.State, 8).After(own.Level, 1), store(own.State, 8, api.Ready), first[2]}, push),
+		enter("the time changes before line 2", wants(1), api.Fine, 1, []step{first[0], first[1].After(own.Since, 9), first[2]}, push),
+		enter("the task is ready before line 2", wants(1), api.Fine, 1, []step{first[0], store(own.State, api.Ready, api.Ready).After(own.State, api.Ready), first[2]}, push),
+		enter("another one claims the task before line 3", wants(1), api.Fine, 1, []step{first[0], first[1], first[2].After(own.State, api.Running)}, push),
+		enter("the level rises before line 1", nil, api.Fine, 1, []step{first[0].After(own.Level, 1), first[1], first[2]}, push),
+		enter("the level rises before line 2", nil, api.Fine, 1, []step{first[0], first[1].After(own.Level, 1), first[2]}, push),
+		enter("the level rises before line 3", nil, api.Fine, 1, []step{first[0], first[1], first[2].After(own.Level, 1)}, push),
+		enter("the level rises before line 4", wants(1), api.Fine, 1, first, []step{push[0].After(own.Level, 2)}, push[1:]),
+		enter("the level rises in the middle of line 4", wants(1), api.Fine, 1, first, push[:2], []step{push[2].After(own.Level, 2)}, push[3:]),
+		enter("the level rises before the last step", wants(1), api.Fine, 1, first, push[:4], []step{push[4].After(own.Level, 2)}),
+		enter("the level rises while the deque is full", join(wants(1), full), api.Full, 1, first, []step{load(middle.Bottom, 6).After(own.Level, 2), load(middle.Top, 4)}),
+		enter("the level becomes none before line 4", wants(1), api.Fine, 1, first, []step{push[0].After(own.Level, top)}, push[1:]),
+		enter("another one claims the task in the middle of line 4", wants(1), api.Fine, 1, first, push[:1], []step{push[1].After(own.State, api.Running)}, push[2:]),
 		enter("a thief takes an entry of a full deque", join(wants(1), full), api.Fine, 1, first, []step{load(middle.Bottom, 6), load(middle.Top, 5).After(middle.Top, 5), store(middle.Ring, 0, 2), store(middle.Bottom, 6, 7), push[4]}),
 		enter("the deque is full before line 4", wants(1), api.Full, 1, first, []step{load(middle.Bottom, 2).After(middle.Bottom, 2), load(middle.Top, 0)}),
 		enter("the bit is set before the last step", wants(1), api.Fine, 1, first, push[:4], []step{or(bits, 6, 6).After(bits, 6)}),
@@ -171,7 +155,7 @@ func enterEverywhere(c api.Config) []steptest.Way {
 		for level := range c.Levels {
 			for _, task := range []int{0, c.Tasks - 1} {
 				r, q, p := rowOf(c, task), dequeOf(c, worker, level), uint64(level)
-				puts := join(beside(c, task), is(r.level, p))
+				puts := join(beside(c, task), is(r.Level, p))
 				set := or(bitsOf(c, worker), 0, 1<<level)
 				l = append(l,
 					enterIn(c, "an empty deque", puts, worker, task, api.Fine, level, opens(r, p), pushesIn(q, 0, 0, uint64(task), set)),
@@ -225,58 +209,25 @@ func ways() []steptest.Way {
 }
 
 // R6: a machine is given to a copy of its environment before each step. What it leaves stays as it is, and what happens there since is nothing to it.
-func TestCopiedEnvironments(t *testing.T) {
-	for _, w := range ways() {
-		e, x := w.Env.Copy(), w.Make()
-		for i, s := range w.Steps {
-			f, cells, events := e.Copy(), e.Memory.Cells(), len(e.Events)
-			steptest.CheckStep(t, w.What+", in a copy", f, x, s, i == len(w.Steps)-1)
-			if !slices.Equal(e.Memory.Cells(), cells) || len(e.Events) != events {
-				t.Errorf("%s: the environment that the machine has left changes at step %d", w.What, i+1)
-			}
-			for cell, v := range cells {
-				e.Memory.Store(cell, ^v)
-			}
-			e = f
-		}
-		steptest.CheckResult(t, w.What+", in copies", x, w.Code, w.Value)
-	}
-}
+func TestCopiedEnvironments(t *testing.T) { steptest.CheckMoves(t, ways()...) }
 
-// alone reports whether nothing else happens before a step.
-func alone(s step) bool { return len(s.Puts) == 0 && s.Ticks == 0 }
-
-// R2 and R6: machines of equal calls behave equally in equal environments.
-func TestEqualCalls(t *testing.T) {
-	for _, w := range ways() {
-		if slices.ContainsFunc(w.Steps, func(s step) bool { return !alone(s) }) {
-			continue
-		}
-		var all step
-		for _, s := range w.Steps {
-			all.Events, all.Writes = join(all.Events, s.Events), join(all.Writes, s.Writes)
-		}
-		x, y := w.Make(), w.Make()
-		steptest.CheckEqualSteps(t, w.What, w.Env.Copy(), w.Env.Copy(), x, y, all)
-		steptest.CheckResult(t, w.What, x, w.Code, w.Value)
-		steptest.CheckResult(t, w.What+", the second machine", y, w.Code, w.Value)
-	}
-}
+// R2 and R6: machines of equal calls behave equally in equal environments, and do not disturb one another.
+func TestEqualCalls(t *testing.T) { steptest.CheckPairs(t, ways()...) }
 
 // R6: a machine goes on in the environment of another configuration, whose cells are others. What was loaded stays with it, and a task that there is not has no cells there.
 func TestOtherEnvironments(t *testing.T) {
 	few, many := sized(1, 1, 2, 1), sized(3, 4, 6, 3)
 	other := rowOf(many, 2)
-	e, f, g := recorded(home, wants(1)), recorded(few, nil), recorded(many, is(other.level, 3))
+	e, f, g := recorded(home, wants(1)), recorded(few, nil), recorded(many, is(other.Level, 3))
 	x := table.Publish(2, 1)
-	steptest.CheckStep(t, "Publish, line 1", e, x, store(own.level, 1, 1), false)
+	steptest.CheckStep(t, "Publish, line 1", e, x, store(own.Level, 1, 1), false)
 	steptest.CheckStep(t, "Publish, line 2, with few tasks", f, x.Copy(), none, false)
-	steptest.CheckStep(t, "Publish, line 2, with many tasks", g, x, store(other.since, 0, 1), false)
+	steptest.CheckStep(t, "Publish, line 2, with many tasks", g, x, store(other.Since, 0, 1), false)
 	steptest.CheckStep(t, "Publish, line 3, with few tasks", f, x, none, true)
 	steptest.CheckResult(t, "Publish", x, api.Fine, 0)
 
 	y := table.Enter(1, 2)
-	steptest.CheckStep(t, "Enter, line 1", e, y, store(own.since, 0, 1), false)
+	steptest.CheckStep(t, "Enter, line 1", e, y, store(own.Since, 0, 1), false)
 	z := y.Copy()
 	steptest.CheckStep(t, "Enter, line 2, with few tasks", f, z, none, false)
 	steptest.CheckStep(t, "Enter, line 3, with few tasks", f, z, none, false)
@@ -284,8 +235,8 @@ func TestOtherEnvironments(t *testing.T) {
 		steptest.CheckStep(t, "Enter, line 4, with the level of a cell that is not there", e, z, s, i == 4)
 	}
 	steptest.CheckResult(t, "Enter", z, api.Fine, 0)
-	steptest.CheckStep(t, "Enter, line 2, with many tasks", g, y, store(other.state, 0, api.Ready), false)
-	steptest.CheckStep(t, "Enter, line 3, with many tasks", g, y, load(other.level, 3), false)
+	steptest.CheckStep(t, "Enter, line 2, with many tasks", g, y, store(other.State, 0, api.Ready), false)
+	steptest.CheckStep(t, "Enter, line 3, with many tasks", g, y, load(other.Level, 3), false)
 	q := dequeOf(many, 1, 3)
 	push := pushesIn(q, 0, 0, 2, or(bitsOf(many, 1), 0, 8))
 	z = y.Copy()

@@ -37,20 +37,20 @@ func (c call) perform(e *machine.Env) (code, value int) {
 		}
 		return api.Full, 0
 	case c.function == 2:
-		return c.claim(e, is && m.CAS(r.state, api.Ready, api.Running))
+		return c.claim(e, is && m.CAS(r.State, api.Ready, api.Running))
 	case c.function == 4:
 		return run(e, levels.Pop(c.worker))
 	case !is:
 		return api.Abort, 0
 	case c.function == 1:
-		m.Store(r.level, uint64(c.level))
-		m.Store(r.since, uint64(e.Clock.Now()))
-		m.Store(r.state, api.Ready)
+		m.Store(r.Level, uint64(c.level))
+		m.Store(r.Since, uint64(e.Clock.Now()))
+		m.Store(r.State, api.Ready)
 		return api.Fine, 0
 	}
-	m.Store(r.since, uint64(e.Clock.Now()))
-	m.Store(r.state, api.Ready)
-	p := int(m.Load(r.level))
+	m.Store(r.Since, uint64(e.Clock.Now()))
+	m.Store(r.State, api.Ready)
+	p := int(m.Load(r.Level))
 	code, _ = run(e, levels.Push(c.worker, p, c.task))
 	return code, p
 }

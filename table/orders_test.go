@@ -93,7 +93,7 @@ type noted struct{ machine.Machine }
 func (n *noted) Step(e *machine.Env) bool {
 	count := e.Memory.Count()
 	done := n.Machine.Step(e)
-	ready := api.Access{Kind: api.AccessStore, Cell: own.state, New: api.Ready}
+	ready := api.Access{Kind: api.AccessStore, Cell: own.State, New: api.Ready}
 	if last := e.Memory.Last(); e.Memory.Count() > count && last.Kind == ready.Kind && last.Cell == ready.Cell && last.New == ready.New {
 		e.Emit(api.Event{Kind: madeReady, Task: 2})
 	}
@@ -139,7 +139,7 @@ func checkClaims(t *testing.T, s steptest.Scene) {
 		}
 	}
 	free := wanted(events) != api.EvSkip
-	if g := s.Env.Memory.Peek(own.state); free != (g == api.Ready) || !free && len(got) > 0 && g != api.Running {
+	if g := s.Env.Memory.Peek(own.State); free != (g == api.Ready) || !free && len(got) > 0 && g != api.Running {
 		t.Errorf("the state is %d behind the events %v", g, events)
 	}
 	if g := s.Env.Records[2].Started; g != (len(got) > 0) {
@@ -194,15 +194,15 @@ func TestClaimLongOrders(t *testing.T) {
 
 // P18.2: whatever the order, one that gets a new task finds the level and the time that were published, since the task is made ready behind these.
 func TestPublishOrders(t *testing.T) {
-	e := steptest.Made(home, join(is(own.level, 9), is(own.since, 9))...)
+	e := steptest.Made(home, join(is(own.Level, 9), is(own.Since, 9))...)
 	s := steptest.Play(e, []machine.Machine{table.Publish(2, 1)}, claims(0, 2))
 	claimed := 0
 	steptest.Orders(s, func(s steptest.Scene) {
-		if s.Env.Memory.Peek(own.state) == api.Absent {
+		if s.Env.Memory.Peek(own.State) == api.Absent {
 			return
 		}
 		claimed++
-		if level, since := s.Env.Memory.Peek(own.level), s.Env.Memory.Peek(own.since); level != 1 || since != 1 {
+		if level, since := s.Env.Memory.Peek(own.Level), s.Env.Memory.Peek(own.Since); level != 1 || since != 1 {
 			t.Errorf("a task that is ready has the level %d and is so since %d", level, since)
 		}
 	})

@@ -19,10 +19,11 @@ const (
 	half = 1 << 63
 )
 
-// Short names for what a step of a machine must do, and for what is put into cells before it.
+// Short names for what a step of a machine must do, for what is put into cells before it, and for the cells of a task.
 type (
 	step = steptest.Step
 	put  = steptest.Put
+	row  = steptest.Row
 )
 
 var (
@@ -34,10 +35,17 @@ var (
 	add   = steptest.Add
 )
 
-// sized returns a configuration with some workers, levels and tasks, whose deques have some places.
-func sized(workers, levels, tasks, places int) api.Config {
-	return api.Config{Workers: workers, Levels: levels, Classes: 1, Tasks: tasks, Deque: places, Heap: 1, Batch: 1, Patience: 1, Progs: [][]api.Instr{{}}}
-}
+// Short names for configurations, their cells, and what they contain.
+var (
+	sized   = steptest.Sized
+	bitsOf  = steptest.BitsOf
+	dequeOf = steptest.DequeOf
+	rowOf   = steptest.RowOf
+	is      = steptest.Is
+	has     = steptest.Has
+	beside  = steptest.Beside
+	looks   = steptest.Looks
+)
 
 // sizes returns configurations with few and with many workers, levels, tasks and places, up to the greatest ones.
 func sizes() []api.Config {
@@ -47,24 +55,6 @@ func sizes() []api.Config {
 // next is the cell of the number of tasks that were asked for.
 const next = 0
 
-// bitsOf returns the cell of the bitmap of a worker, as chapter 6 counts the cells: behind four cells, the injector, the sleepers and the epochs.
-func bitsOf(c api.Config, worker int) int { return 4 + c.Heap + c.Classes + c.Workers + worker }
-
-// dequeOf returns the deque of a worker and a level, as chapter 6 counts the cells: behind the bitmaps.
-func dequeOf(c api.Config, worker, level int) api.Queue {
-	first := bitsOf(c, c.Workers) + (worker*c.Levels+level)*(2+c.Deque)
-	return api.Queue{Top: first, Bottom: first + 1, Ring: first + 2, Cap: c.Deque}
-}
-
-// A row is the cells of a task.
-type row struct{ state, level, join, waits, since int }
-
-// rowOf returns the cells of a task, as chapter 6 counts the cells: behind the deques.
-func rowOf(c api.Config, task int) row {
-	first := dequeOf(c, c.Workers, 0).Top + 5*task
-	return row{first, first + 1, first + 2, first + 3, first + 4}
-}
-
 // Most ways are those of task 2 of four tasks, and of worker 1 of two workers with three levels. Its bitmap is bits, and its deques, of two places each, are low, middle and high.
 var (
 	home              = sized(2, 3, 4, 2)
@@ -73,27 +63,8 @@ var (
 	own               = rowOf(home, 2)
 )
 
-// is returns the put of a word into a cell.
-func is(cell int, v uint64) []put { return []put{{Cell: cell, V: v}} }
-
 // join returns steps, or puts, as one list.
 func join[T any](l ...[]T) []T { return slices.Concat(l...) }
-
-// filled returns puts that let every cell of a task contain a number of its own.
-func filled(r row, first uint64) []put {
-	return join(is(r.state, first), is(r.level, first+1), is(r.join, first+2), is(r.waits, first+3), is(r.since, first+4))
-}
-
-// beside returns puts that let the cells of the other tasks contain numbers.
-func beside(c api.Config, task int) []put {
-	var l []put
-	for i := range c.Tasks {
-		if i != task {
-			l = join(l, filled(rowOf(c, i), 1))
-		}
-	}
-	return l
-}
 
 // noNumbers returns numbers that are none from 0 to n - 1; some of them become one if they are cut off.
 func noNumbers(n int) []int {
@@ -199,23 +170,23 @@ func publish(c api.Config, what string, puts []put, task, level int, steps ...st
 
 // publishes returns the steps of a Publish of a task whose cells contain 0, with the word of the level, at the time 1.
 func publishes(r row, level uint64) []step {
-	return []step{store(r.level, 0, level), store(r.since, 0, 1), store(r.state, 0, api.Ready)}
+	return []step{store(r.Level, 0, level), store(r.Since, 0, 1), store(r.State, 0, api.Ready)}
 }
 
 // P18.2: what the cells of the task contain before, and what is beside them.
 func publishLines() []steptest.Way {
 	over := func(state, level, since uint64) []step {
-		return []step{store(own.level, level, 1), store(own.since, since, 1), store(own.state, state, api.Ready)}
+		return []step{store(own.Level, level, 1), store(own.Since, since, 1), store(own.State, state, api.Ready)}
 	}
 	l := []steptest.Way{
 		publish(home, "cells of 0", nil, 2, 1, publishes(own, 1)...),
 		publish(home, "cells of other tasks", beside(home, 2), 2, 1, publishes(own, 1)...),
-		publish(home, "the cells of a task that was there before", filled(own, api.Done), 2, 1, over(4, 5, 8)...),
-		publish(home, "the greatest words", join(is(own.state, top), is(own.level, top), is(own.since, top)), 2, 1, over(top, top, top)...),
-		publish(home, "the same words", join(is(own.state, api.Ready), is(own.level, 1), is(own.since, 1)), 2, 1, over(1, 1, 1)...),
+		publish(home, "the cells of a task that was there before", own.Filled(api.Done), 2, 1, over(4, 5, 8)...),
+		publish(home, "the greatest words", join(is(own.State, top), is(own.Level, top), is(own.Since, top)), 2, 1, over(top, top, top)...),
+		publish(home, "the same words", join(is(own.State, api.Ready), is(own.Level, 1), is(own.Since, 1)), 2, 1, over(1, 1, 1)...),
 	}
 	for _, state := range states() {
-		l = append(l, publish(home, fmt.Sprintf("the state %d", state), is(own.state, state), 2, 1, over(state, 0, 0)...))
+		l = append(l, publish(home, fmt.Sprintf("the state %d", state), is(own.State, state), 2, 1, over(state, 0, 0)...))
 	}
 	return l
 }
@@ -240,7 +211,7 @@ func publishLevels() []steptest.Way {
 // P18.2: the time of line 2 is stored, and not that of another line.
 func publishTimes() []steptest.Way {
 	steps := publishes(own, 1)
-	at := func(time uint64) step { return store(own.since, 0, time) }
+	at := func(time uint64) step { return store(own.Since, 0, time) }
 	return []steptest.Way{
 		publish(home, "time goes on before line 1", nil, 2, 1, steps[0].Later(3), at(4), steps[2]),
 		publish(home, "time goes on before line 2", nil, 2, 1, steps[0], at(5).Later(4), steps[2]),
@@ -254,11 +225,11 @@ func publishTimes() []steptest.Way {
 func publishOthers() []steptest.Way {
 	steps := publishes(own, 1)
 	return []steptest.Way{
-		publish(home, "all cells change before line 1", nil, 2, 1, store(own.level, 9, 1).After(own.level, 9).After(own.since, 8).After(own.state, 7), store(own.since, 8, 1), store(own.state, 7, api.Ready)),
-		publish(home, "the level changes behind line 1", nil, 2, 1, steps[0], steps[1].After(own.level, 7), steps[2]),
-		publish(home, "the time changes before and behind line 2", nil, 2, 1, steps[0], store(own.since, 6, 1).After(own.since, 6), steps[2].After(own.since, 9)),
-		publish(home, "the task is ready before line 2", nil, 2, 1, steps[0], steps[1].After(own.state, api.Ready), store(own.state, api.Ready, api.Ready)),
-		publish(home, "the task runs before line 3", nil, 2, 1, steps[0], steps[1], store(own.state, api.Running, api.Ready).After(own.state, api.Running)),
+		publish(home, "all cells change before line 1", nil, 2, 1, store(own.Level, 9, 1).After(own.Level, 9).After(own.Since, 8).After(own.State, 7), store(own.Since, 8, 1), store(own.State, 7, api.Ready)),
+		publish(home, "the level changes behind line 1", nil, 2, 1, steps[0], steps[1].After(own.Level, 7), steps[2]),
+		publish(home, "the time changes before and behind line 2", nil, 2, 1, steps[0], store(own.Since, 6, 1).After(own.Since, 6), steps[2].After(own.Since, 9)),
+		publish(home, "the task is ready before line 2", nil, 2, 1, steps[0], steps[1].After(own.State, api.Ready), store(own.State, api.Ready, api.Ready)),
+		publish(home, "the task runs before line 3", nil, 2, 1, steps[0], steps[1], store(own.State, api.Running, api.Ready).After(own.State, api.Running)),
 	}
 }
 
@@ -285,7 +256,7 @@ func TestPublish(t *testing.T) {
 func nothing(c api.Config, what string, begin func() machine.Machine) steptest.Way {
 	return steptest.Way{
 		What:  fmt.Sprintf("%s of %d tasks, no such task", what, c.Tasks),
-		Env:   recorded(c, beside(c, -1), 0),
+		Env:   recorded(c, beside(c), 0),
 		Make:  begin,
 		Steps: []step{none},
 		Code:  api.Abort,
@@ -346,23 +317,23 @@ func says(s step, kind, worker, task int) step {
 
 // starts returns the step of a Claim of a task that is ready and has not started.
 func starts(r row, worker, task int) step {
-	return says(cas(r.state, api.Ready, api.Running), api.EvStart, worker, task).Sets(task, record(task, true))
+	return says(cas(r.State, api.Ready, api.Running), api.EvStart, worker, task).Sets(task, record(task, true))
 }
 
 // resumes returns the step of a Claim of a task that is ready and has started.
 func resumes(r row, worker, task int) step {
-	return says(cas(r.state, api.Ready, api.Running), api.EvResume, worker, task)
+	return says(cas(r.State, api.Ready, api.Running), api.EvResume, worker, task)
 }
 
 // skips returns the step of a Claim of a task whose state is not Ready.
 func skips(r row, state uint64, worker, task int) step {
-	return says(cas(r.state, state, state), api.EvSkip, worker, task)
+	return says(cas(r.State, state, state), api.EvSkip, worker, task)
 }
 
 // P18.3: states of all kinds, of a task that has started and of one that has not, beside others that have or have not.
 func claimStates() []steptest.Way {
 	var l []steptest.Way
-	ready := is(own.state, api.Ready)
+	ready := is(own.State, api.Ready)
 	for _, others := range [][]int{nil, {1}, {3}, {0, 1, 3}} {
 		l = append(l,
 			claim(recorded(home, ready, others...), "ready", 1, 2, api.Got, 2, starts(own, 1, 2)),
@@ -372,7 +343,7 @@ func claimStates() []steptest.Way {
 		)
 	}
 	for _, state := range states()[1:] {
-		puts := is(own.state, state)
+		puts := is(own.State, state)
 		l = append(l,
 			claim(recorded(home, puts), fmt.Sprintf("the state %d", state), 1, 2, api.Abort, 0, skips(own, state, 1, 2)),
 			claim(recorded(home, join(beside(home, 2), puts), 2), fmt.Sprintf("the state %d beside others", state), 1, 2, api.Abort, 0, skips(own, state, 1, 2)),
@@ -385,13 +356,13 @@ func claimStates() []steptest.Way {
 func claimRecords() []steptest.Way {
 	var l []steptest.Way
 	for _, r := range []api.Record{{}, {Parent: -1, Waiting: -1}, {PC: 5}, {Left: 1, Waiting: -1}, {Waiting: 3}, {Kids: []int{0}}, {Prog: 1}} {
-		e := recorded(home, is(own.state, api.Ready))
+		e := recorded(home, is(own.State, api.Ready))
 		e.Records[2] = r
 		f := e.Copy()
 		after := r
 		after.Started, f.Records[2].Started = true, true
 		l = append(l,
-			claim(e, fmt.Sprintf("the record %v", r), 1, 2, api.Got, 2, says(cas(own.state, api.Ready, api.Running), api.EvStart, 1, 2).Sets(2, after)),
+			claim(e, fmt.Sprintf("the record %v", r), 1, 2, api.Got, 2, says(cas(own.State, api.Ready, api.Running), api.EvStart, 1, 2).Sets(2, after)),
 			claim(f, fmt.Sprintf("the record %v, started", r), 1, 2, api.Got, 2, resumes(own, 1, 2)),
 		)
 	}
@@ -403,9 +374,9 @@ func claimWorkers() []steptest.Way {
 	var l []steptest.Way
 	for _, worker := range append(noNumbers(2), 0, 1) {
 		l = append(l,
-			claim(recorded(home, is(own.state, api.Ready)), "ready", worker, 2, api.Got, 2, starts(own, worker, 2)),
-			claim(recorded(home, is(own.state, api.Ready), 2), "ready again", worker, 2, api.Got, 2, resumes(own, worker, 2)),
-			claim(recorded(home, is(own.state, api.Blocked), 2), "blocked", worker, 2, api.Abort, 0, skips(own, api.Blocked, worker, 2)),
+			claim(recorded(home, is(own.State, api.Ready)), "ready", worker, 2, api.Got, 2, starts(own, worker, 2)),
+			claim(recorded(home, is(own.State, api.Ready), 2), "ready again", worker, 2, api.Got, 2, resumes(own, worker, 2)),
+			claim(recorded(home, is(own.State, api.Blocked), 2), "blocked", worker, 2, api.Abort, 0, skips(own, api.Blocked, worker, 2)),
 		)
 	}
 	return l
@@ -419,7 +390,7 @@ func claimNoTasks(c api.Config) []steptest.Way {
 			continue
 		}
 		for _, worker := range []int{0, 1, -1, 17, math.MaxInt, math.MinInt} {
-			l = append(l, claim(recorded(c, beside(c, -1), 0), "no such task", worker, task, api.Abort, 0, says(none, api.EvSkip, worker, task)))
+			l = append(l, claim(recorded(c, beside(c), 0), "no such task", worker, task, api.Abort, 0, says(none, api.EvSkip, worker, task)))
 		}
 	}
 	return l
@@ -430,11 +401,11 @@ func claimAll(c api.Config) []steptest.Way {
 	var l []steptest.Way
 	for task := range c.Tasks {
 		r, worker := rowOf(c, task), c.Workers-1
-		puts := join(beside(c, task), is(r.state, api.Ready))
+		puts := join(beside(c, task), is(r.State, api.Ready))
 		l = append(l,
 			claim(recorded(c, puts), "between others", worker, task, api.Got, task, starts(r, worker, task)),
 			claim(recorded(c, puts, task), "again, between others", worker, task, api.Got, task, resumes(r, worker, task)),
-			claim(recorded(c, join(puts, is(r.state, api.Done))), "done, between others", worker, task, api.Abort, 0, skips(r, api.Done, worker, task)),
+			claim(recorded(c, join(puts, is(r.State, api.Done))), "done, between others", worker, task, api.Abort, 0, skips(r, api.Done, worker, task)),
 		)
 	}
 	return l
@@ -442,14 +413,14 @@ func claimAll(c api.Config) []steptest.Way {
 
 // P18.3: what other machines put into the State before the line.
 func claimOthers() []steptest.Way {
-	ready := recorded(home, is(own.state, api.Ready))
+	ready := recorded(home, is(own.State, api.Ready))
 	return []steptest.Way{
-		claim(ready, "claimed before", 1, 2, api.Abort, 0, skips(own, api.Running, 1, 2).After(own.state, api.Running)),
-		claim(ready, "done before", 1, 2, api.Abort, 0, skips(own, api.Done, 1, 2).After(own.state, api.Done)),
-		claim(ready, "claimed and ready again before", 1, 2, api.Got, 2, starts(own, 1, 2).After(own.state, api.Running).After(own.state, api.Ready)),
-		claim(recorded(home, nil), "ready before", 1, 2, api.Got, 2, starts(own, 1, 2).After(own.state, api.Ready)),
-		claim(recorded(home, is(own.state, api.Blocked), 2), "ready again before", 1, 2, api.Got, 2, resumes(own, 1, 2).After(own.state, api.Ready)),
-		claim(recorded(home, is(own.state, api.Ready)), "time goes on before", 1, 2, api.Got, 2, starts(own, 1, 2).Later(9)),
+		claim(ready, "claimed before", 1, 2, api.Abort, 0, skips(own, api.Running, 1, 2).After(own.State, api.Running)),
+		claim(ready, "done before", 1, 2, api.Abort, 0, skips(own, api.Done, 1, 2).After(own.State, api.Done)),
+		claim(ready, "claimed and ready again before", 1, 2, api.Got, 2, starts(own, 1, 2).After(own.State, api.Running).After(own.State, api.Ready)),
+		claim(recorded(home, nil), "ready before", 1, 2, api.Got, 2, starts(own, 1, 2).After(own.State, api.Ready)),
+		claim(recorded(home, is(own.State, api.Blocked), 2), "ready again before", 1, 2, api.Got, 2, resumes(own, 1, 2).After(own.State, api.Ready)),
+		claim(recorded(home, is(own.State, api.Ready)), "time goes on before", 1, 2, api.Got, 2, starts(own, 1, 2).Later(9)),
 	}
 }
 
@@ -493,10 +464,10 @@ func TestClaimWithoutRecord(t *testing.T) {
 		r := rowOf(great, task)
 		s := resumes(r, 1, task)
 		if task >= home.Tasks {
-			s = says(cas(r.state, api.Ready, api.Running), api.EvStart, 1, task)
+			s = says(cas(r.State, api.Ready, api.Running), api.EvStart, 1, task)
 		}
 		x := table.Claim(1, task)
-		steptest.CheckStep(t, "Claim", e, x, s.After(r.state, api.Ready), true)
+		steptest.CheckStep(t, "Claim", e, x, s.After(r.State, api.Ready), true)
 		steptest.CheckResult(t, "Claim", x, api.Got, task)
 	}
 }
